@@ -22,12 +22,13 @@ func rewrite(t api.Term, around int, f change) api.Term {
 
 // instance is the change of Apply.
 type instance struct {
-	types []api.TypeBind
-	terms map[key]api.Term
+	types    types.Instance
+	hasTypes bool
+	terms    map[key]api.Term
 }
 
 func newInstance(i api.Inst) instance {
-	x := instance{types: i.Types, terms: make(map[key]api.Term, len(i.Terms))}
+	x := instance{types: types.NewInstance(i.Types), hasTypes: len(i.Types) > 0, terms: make(map[key]api.Term, len(i.Terms))}
 	for _, b := range i.Terms {
 		k := key{api.Var, b.Name, b.Index}
 		if _, ok := x.terms[k]; !ok {
@@ -43,8 +44,8 @@ func (x instance) change(t api.Term, around int) (api.Term, bool) {
 			return lift(to, around), true
 		}
 	}
-	if len(x.types) > 0 {
-		t.Type = types.Apply(x.types, t.Type)
+	if x.hasTypes {
+		t.Type = x.types.Apply(t.Type)
 	}
 	return t, false
 }

@@ -95,7 +95,7 @@ func Merge(name string, a, b api.Theory) (out api.Theory, err api.Errno) {
 		panic(api.ErrTheory)
 	}
 	must(Check(t))
-	return copyTheory(t), api.OK
+	return Copy(t), api.OK
 }
 
 // without returns the elements of l whose keys no element of other has.
@@ -135,7 +135,7 @@ func extended(t api.Theory, name string, more api.Theory) api.Theory {
 	}
 	out := joined(name, t, more)
 	must(Check(out))
-	return copyTheory(out)
+	return Copy(out)
 }
 
 // overlaps reports whether two theories have parts of one name.

@@ -55,14 +55,20 @@ func errorOf(r any) api.Errno {
 }
 
 // Check returns the error of a theory.
-func Check(t api.Theory) (err api.Errno) {
+func Check(t api.Theory) api.Errno {
+	_, e := Sign(t)
+	return e
+}
+
+// Sign returns the signature of a theory, in new memory, or its error by Check.
+func Sign(t api.Theory) (g term.Signature, err api.Errno) {
 	defer func() {
 		if r := recover(); r != nil {
-			err = errorOf(r)
+			g, err = term.Signature{}, errorOf(r)
 		}
 	}()
-	checked(t)
-	return api.OK
+	g, _ = checked(t)
+	return g, api.OK
 }
 
 // checked returns the signature and the definitions of a right theory, and panics with the error of another one.
@@ -163,8 +169,8 @@ func Axiom(t api.Theory, name string) (api.Axiom, bool) {
 	return api.Axiom{}, false
 }
 
-// copyTheory returns a theory in new memory.
-func copyTheory(t api.Theory) api.Theory {
+// Copy returns a theory in new memory.
+func Copy(t api.Theory) api.Theory {
 	return api.Theory{
 		Name:    t.Name,
 		Classes: copies(t.Classes, copyClass),

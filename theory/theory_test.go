@@ -459,3 +459,31 @@ func TestP41Overload(t *testing.T) {
 		t.Error(e)
 	}
 }
+
+// The signature of a theory is that of its constants, and a copy shares no memory with it.
+func TestP41SignAndCopy(t *testing.T) {
+	thy := small()
+	g, e := Sign(thy)
+	k, ok := g.Const("hd")
+	if e != api.OK || !ok || !types.Equal(k, typ("fun(list(?a.0), ?a.0)")) {
+		t.Error(k, ok, e)
+	}
+	before := fmt.Sprint(thy)
+	c := Copy(thy)
+	if fmt.Sprint(c) != before {
+		t.Error(c)
+	}
+	spoil(c)
+	if fmt.Sprint(thy) != before {
+		t.Error("a copy shares memory")
+	}
+	spoil(thy)
+	if k, _ := g.Const("hd"); !types.Equal(k, typ("fun(list(?a.0), ?a.0)")) {
+		t.Error("a signature shares memory")
+	}
+	for _, bad := range []api.Theory{{}, {Name: "T"}, thy} {
+		if _, e := Sign(bad); e == api.OK || e != Check(bad) {
+			t.Error(e)
+		}
+	}
+}

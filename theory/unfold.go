@@ -68,8 +68,9 @@ func (u *unfolder) replaced(d definition, l []api.TypeBind, within int) api.Term
 	if within+depth > api.MaxDepth {
 		panic(api.ErrDepth)
 	}
+	instance := types.NewInstance(l)
 	for n := range term.Nodes(d.right) {
-		size, depth := sizeOfApply(l, n.Type)
+		size, depth := instance.Size(n.Type)
 		if size > api.MaxType {
 			panic(api.ErrCount)
 		}
@@ -78,20 +79,4 @@ func (u *unfolder) replaced(d definition, l []api.TypeBind, within int) api.Term
 		}
 	}
 	return term.Apply(api.Inst{Types: l}, d.right)
-}
-
-// sizeOfApply returns the size of types.Apply.
-func sizeOfApply(l []api.TypeBind, t api.Type) (nodes, depth int) {
-	for _, b := range l {
-		if t.Op == api.TVar && t.Name == b.Name && t.Index == b.Index {
-			return types.Size(b.To)
-		}
-	}
-	nodes = 1
-	for _, a := range t.Args {
-		n, d := sizeOfApply(l, a)
-		nodes += n
-		depth = max(depth, d)
-	}
-	return nodes, depth + 1
 }

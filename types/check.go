@@ -178,11 +178,11 @@ func HasSort(thy api.Theory, t api.Type, s []string) bool {
 	if _, e := g.Normal(s); e != api.OK {
 		return false
 	}
-	return hasSort(g, t, s)
+	return HasSortIn(g, t, s)
 }
 
-// hasSort reports whether a type of a theory has a sort of classes that exist.
-func hasSort(g sort.Signature, t api.Type, s []string) bool {
+// HasSortIn is HasSort in a theory whose signature is known, for a type that is right in it and a sort of classes that exist.
+func HasSortIn(g sort.Signature, t api.Type, s []string) bool {
 	if len(s) == 0 {
 		return true
 	}
@@ -194,7 +194,7 @@ func hasSort(g sort.Signature, t api.Type, s []string) bool {
 		return false
 	}
 	for i, a := range t.Args {
-		if !hasSort(g, a, sorts[i]) {
+		if !HasSortIn(g, a, sorts[i]) {
 			return false
 		}
 	}
@@ -257,7 +257,7 @@ func (m *matcher) bind(p, t api.Type) bool {
 	if to, ok := m.known[keyOf(p)]; ok {
 		return Equal(to, t)
 	}
-	if !hasSort(m.sign, t, p.Sort) {
+	if !HasSortIn(m.sign, t, p.Sort) {
 		return false
 	}
 	m.known[keyOf(p)] = t
