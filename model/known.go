@@ -13,51 +13,52 @@ type knownConst struct {
 	takes     int
 }
 
-const (
-	unary      = "fun(bool, bool)"
-	binary     = "fun(bool, fun(bool, bool))"
-	equality   = "fun(?a.0, fun(?a.0, bool))"
-	quantifier = "fun(fun(?a.0, bool), bool)"
-)
-
-// known has the constants of Pure and HOL.
-var known = [...]knownConst{
-	{"imp", "fun(prop, fun(prop, prop))", 2},
-	{"all", "fun(fun(?a.0, prop), prop)", 1},
-	{"eq", "fun(?a.0, fun(?a.0, prop))", 2},
-	{"protect", "fun(prop, prop)", 1},
-	{"Trueprop", "fun(bool, prop)", 1},
-	{"True", "bool", 0},
-	{"False", "bool", 0},
-	{"Not", unary, 1},
-	{"And", binary, 2},
-	{"Or", binary, 2},
-	{"Implies", binary, 2},
-	{"Equal", equality, 2},
-	{"All", quantifier, 1},
-	{"Ex", quantifier, 1},
-	{"The", "fun(fun(?a.0, bool), ?a.0)", 1},
-	{"If", "fun(bool, fun(?a.0, fun(?a.0, ?a.0)))", 3},
+// knownConsts returns the constants of Pure and HOL.
+func knownConsts() [16]knownConst {
+	const (
+		binary     = "fun(bool, fun(bool, bool))"
+		equality   = "fun(?a.0, fun(?a.0, bool))"
+		quantifier = "fun(fun(?a.0, bool), bool)"
+	)
+	return [...]knownConst{
+		{"imp", "fun(prop, fun(prop, prop))", 2},
+		{"all", "fun(fun(?a.0, prop), prop)", 1},
+		{"eq", "fun(?a.0, fun(?a.0, prop))", 2},
+		{"protect", "fun(prop, prop)", 1},
+		{"Trueprop", "fun(bool, prop)", 1},
+		{"True", "bool", 0},
+		{"False", "bool", 0},
+		{"Not", "fun(bool, bool)", 1},
+		{"And", binary, 2},
+		{"Or", binary, 2},
+		{"Implies", binary, 2},
+		{"Equal", equality, 2},
+		{"All", quantifier, 1},
+		{"Ex", quantifier, 1},
+		{"The", "fun(fun(?a.0, bool), ?a.0)", 1},
+		{"If", "fun(bool, fun(?a.0, fun(?a.0, ?a.0)))", 3},
+	}
 }
 
 // Known returns the names of the constants whose meaning is known.
 func Known() []string {
 	var l []string
-	for _, k := range known {
+	for _, k := range knownConsts() {
 		l = append(l, k.name)
 	}
 	return l
 }
 
-// isKnown returns how many arguments a constant takes whose meaning is known.
-func isKnown(c api.ConstDecl) (takes int, ok bool) {
-	for _, k := range known {
-		if k.name == c.Name {
-			s, e := types.Text(c.Type)
-			return k.takes, e == api.OK && s == k.typ
+// knownIn returns which of the known constants are among constants with their declared types, and how many arguments they take. Of another type none is known.
+func knownIn(consts map[string]api.Type) map[string]int {
+	m := map[string]int{}
+	for _, k := range knownConsts() {
+		t, ok := consts[k.name]
+		if s, e := types.Text(t); ok && e == api.OK && s == k.typ {
+			m[k.name] = k.takes
 		}
 	}
-	return 0, false
+	return m
 }
 
 // truth returns the element that a truth value is.

@@ -47,16 +47,14 @@ type definition struct {
 func newLanguage(thy api.Theory) language {
 	g, e := theory.Sign(thy)
 	want(e == api.OK, api.ErrTheory)
-	l := language{thy, g, map[string]int{}, map[string]api.Type{}, map[string]int{}, map[string][]definition{}}
+	l := language{thy: thy, sign: g, types: map[string]int{}, consts: map[string]api.Type{}, definitions: map[string][]definition{}}
 	for _, d := range thy.Types {
 		l.types[d.Name] = d.Arity
 	}
 	for _, c := range thy.Consts {
 		l.consts[c.Name] = c.Type
-		if takes, ok := isKnown(c); ok {
-			l.known[c.Name] = takes
-		}
 	}
+	l.known = knownIn(l.consts)
 	for _, x := range thy.Axioms {
 		if x.Kind == api.Defining {
 			left, right, _ := term.IsEq(x.Prop)
