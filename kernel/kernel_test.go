@@ -815,3 +815,25 @@ func spoilType(t *api.Type) {
 	}
 	t.Op, t.Name = 99, "spoilt"
 }
+
+// What upper layers ask a Base for.
+func TestP61BaseSign(t *testing.T) {
+	b, e := On(small())
+	pure, f := On(theory.Pure())
+	if e != api.OK || f != api.OK {
+		t.Fatal(e, f)
+	}
+	if !pure.Within(b) || b.Within(pure) || !b.Within(b) || !(Base{}).Within(b) || b.Within(Base{}) || !(Base{}).Within(Base{}) {
+		t.Error("Within")
+	}
+	if _, ok := b.Sign().Const("imp"); !ok {
+		t.Error("Sign")
+	}
+	if _, e := (Base{}).Sign().Check(of("imp:F(P, F(P, P))")); e == api.OK {
+		t.Error("the zero value has nothing")
+	}
+	x, _ := b.Assume(of("$A:P"))
+	if x.Base() != b {
+		t.Error("Base")
+	}
+}

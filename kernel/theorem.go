@@ -141,6 +141,22 @@ func (b Base) Theory() api.Theory {
 	return theory.Copy(b.b.thy)
 }
 
+// Sign returns the signature of the theory.
+func (b Base) Sign() term.Signature {
+	if b.b == nil {
+		return term.Signature{}
+	}
+	return b.b.sign
+}
+
+// Within reports whether the theory is within another one.
+func (b Base) Within(o Base) bool {
+	if b.b == nil || o.b == nil {
+		return b.b == nil
+	}
+	return b.b == o.b || theory.Within(b.b.thy, o.b.thy)
+}
+
 // open returns the base that is a theory, or panics with its error.
 func open(thy api.Theory) *base {
 	g, e := theory.Sign(thy)

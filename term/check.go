@@ -207,34 +207,46 @@ func (g Signature) nodeFits(t api.Term) api.Errno {
 }
 
 // oneSort returns api.ErrSort, if a type variable has two sorts.
-func oneSort(t api.Term) api.Errno {
+func oneSort(l ...api.Term) api.Errno {
 	var s types.Sorts
-	for n := range Nodes(t) {
-		if e := s.Add(n.Type); e != api.OK {
-			return e
+	for _, t := range l {
+		for n := range Nodes(t) {
+			if e := s.Add(n.Type); e != api.OK {
+				return e
+			}
 		}
 	}
 	return api.OK
 }
 
 // oneType returns api.ErrType, if a variable has two types.
-func oneType(t api.Term) api.Errno {
+func oneType(l ...api.Term) api.Errno {
 	var met map[key]api.Type
-	for n := range Nodes(t) {
-		if n.Op != api.Free && n.Op != api.Var {
-			continue
-		}
-		if met == nil {
-			met = map[key]api.Type{}
-		}
-		old, ok := met[keyOf(n)]
-		if !ok {
-			met[keyOf(n)] = n.Type
-		} else if !types.Equal(old, n.Type) {
-			return api.ErrType
+	for _, t := range l {
+		for n := range Nodes(t) {
+			if n.Op != api.Free && n.Op != api.Var {
+				continue
+			}
+			if met == nil {
+				met = map[key]api.Type{}
+			}
+			old, ok := met[keyOf(n)]
+			if !ok {
+				met[keyOf(n)] = n.Type
+			} else if !types.Equal(old, n.Type) {
+				return api.ErrType
+			}
 		}
 	}
 	return api.OK
+}
+
+// Agree returns api.ErrSort, if a type variable has two sorts in some terms together; and then api.ErrType, if a Free, or a Var, has two types.
+func Agree(l []api.Term) api.Errno {
+	if e := oneSort(l...); e != api.OK {
+		return e
+	}
+	return oneType(l...)
 }
 
 // TypeOf returns the type of a term by the types of its variables and constants alone.

@@ -11,8 +11,13 @@ func Beta(t api.Term) (api.Term, bool) {
 }
 
 // Norm returns the beta normal form; Eta the eta normal form of a term.
-func Norm(t api.Term, fuel int) (out api.Term, err api.Errno) {
-	if e := sizeError(t); e != api.OK {
+func Norm(t api.Term, fuel int) (api.Term, api.Errno) {
+	return NormWithin(t, fuel, api.MaxTerm, api.MaxDepth)
+}
+
+// NormWithin is Norm, but no term on the way has more than some nodes, or is deeper than some number of them.
+func NormWithin(t api.Term, fuel, nodes, depth int) (out api.Term, err api.Errno) {
+	if e := sizeWithin(t, nodes, depth); e != api.OK {
 		return api.Term{}, e
 	}
 	defer func() {
@@ -21,7 +26,7 @@ func Norm(t api.Term, fuel int) (out api.Term, err api.Errno) {
 		}
 	}()
 	size, _ := Size(t)
-	n := normalizer{fuel: fuel, nodes: size}
+	n := normalizer{fuel: fuel, nodes: size, maxNodes: nodes, maxDepth: depth}
 	return Copy(n.normal(t, 0)), api.OK
 }
 
@@ -36,8 +41,9 @@ func errorOf(r any) api.Errno {
 // normalizer makes the leftmost outermost steps of a term.
 // It does not look for each one from the root on: what stands ahead of a step has no redex, and only the head of applications can make one of them.
 type normalizer struct {
-	fuel  int // how many steps may still be made
-	nodes int // how many nodes the whole term has now
+	fuel               int // how many steps may still be made
+	nodes              int // how many nodes the whole term has now
+	maxNodes, maxDepth int // the limits of the whole term
 }
 
 // normal returns the normal form of a part of the whole that stands within some nodes.
@@ -76,11 +82,11 @@ func (n *normalizer) step(body, a api.Term, within int) api.Term {
 	before, _ := Size(body)
 	size, _ := Size(a)
 	n.nodes += sizeOfPut(body, 0, size) - before - size - 2
-	if n.nodes > api.MaxTerm {
+	if n.nodes > n.maxNodes {
 		panic(api.ErrCount)
 	}
 	out := put(body, a)
-	if _, d := Size(out); within+d > api.MaxDepth {
+	if _, d := Size(out); within+d > n.maxDepth {
 		panic(api.ErrDepth)
 	}
 	return out

@@ -20,41 +20,6 @@ func rewrite(t api.Term, around int, f change) api.Term {
 	return eachKid(now, func(k api.Term) api.Term { return rewrite(k, around, f) })
 }
 
-// instance is the change of Apply.
-type instance struct {
-	types    types.Instance
-	hasTypes bool
-	terms    map[key]api.Term
-}
-
-func newInstance(i api.Inst) instance {
-	x := instance{types: types.NewInstance(i.Types), hasTypes: len(i.Types) > 0, terms: make(map[key]api.Term, len(i.Terms))}
-	for _, b := range i.Terms {
-		k := key{api.Var, b.Name, b.Index}
-		if _, ok := x.terms[k]; !ok {
-			x.terms[k] = b.To
-		}
-	}
-	return x
-}
-
-func (x instance) change(t api.Term, around int) (api.Term, bool) {
-	if t.Op == api.Var {
-		if to, ok := x.terms[keyOf(t)]; ok {
-			return lift(to, around), true
-		}
-	}
-	if x.hasTypes {
-		t.Type = x.types.Apply(t.Type)
-	}
-	return t, false
-}
-
-// Apply gives schematic type variables types, and then schematic variables terms.
-func Apply(i api.Inst, t api.Term) api.Term {
-	return Copy(rewrite(t, 0, newInstance(i).change))
-}
-
 // binder is the change of Bind.
 type binder struct {
 	x api.Term

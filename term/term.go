@@ -64,26 +64,31 @@ func Size(t api.Term) (nodes, depth int) {
 
 // sizeError returns the error of a term that is too large, or too deep.
 func sizeError(t api.Term) api.Errno {
+	return sizeWithin(t, api.MaxTerm, api.MaxDepth)
+}
+
+// sizeWithin returns the error of a term that has more than some nodes, or is deeper than some number of them.
+func sizeWithin(t api.Term, nodes, depth int) api.Errno {
 	count := 0
-	depth := measure(&t, &count)
-	if count > api.MaxTerm {
+	d := measure(&t, &count, nodes)
+	if count > nodes {
 		return api.ErrCount
 	}
-	if depth > api.MaxDepth {
+	if d > depth {
 		return api.ErrDepth
 	}
 	return api.OK
 }
 
-// measure returns the depth of a term, and counts its nodes; of a term with too many nodes it looks at no more than one further, and the depth is any.
-func measure(t *api.Term, count *int) int {
+// measure returns the depth of a term, and counts its nodes; of a term with more than some nodes it looks at no more than one further, and the depth is any.
+func measure(t *api.Term, count *int, most int) int {
 	depth := 0
 	*count++
 	for i := range t.Kids {
-		if *count > api.MaxTerm {
+		if *count > most {
 			break
 		}
-		depth = max(depth, measure(&t.Kids[i], count))
+		depth = max(depth, measure(&t.Kids[i], count, most))
 	}
 	return depth + 1
 }

@@ -736,3 +736,63 @@ func TestP31Nested(t *testing.T) {
 }
 
 func second[T any](_ T, e api.Errno) api.Errno { return e }
+
+// NormWithin is Norm with other limits of what stands on the way.
+func TestP31NormWithin(t *testing.T) {
+	x := of("((\\x:N . ((f:fun(N, fun(N, N)) #0) #0)) (s:fun(N, N) z:N))") // 10 nodes, and then 9: f (s z) (s z)
+	for i, c := range []struct {
+		fuel, nodes, depth int
+		e                  api.Errno
+	}{{1, 10, 5, api.OK}, {1, 9, 5, api.ErrCount}, {0, 10, 5, api.ErrFuel}, {1, 10, 4, api.ErrDepth}, {-1, 1, 1, api.ErrCount}, {1, -1, 5, api.ErrCount}} {
+		n, e := NormWithin(x, c.fuel, c.nodes, c.depth)
+		size, _ := Size(n)
+		if e != c.e || e == api.OK && size != 9 || e != api.OK && n.Op != 0 {
+			t.Error(i, e, size)
+		}
+	}
+}
+
+func TestP31Agree(t *testing.T) {
+	for i, c := range []struct {
+		l []string
+		e api.Errno
+	}{
+		{nil, api.OK}, {[]string{"$x:N", "?x.0:prop", "?x.1:N", "x:prop"}, api.OK}, {[]string{"$x:N", "$x:prop"}, api.ErrType}, {[]string{"?x.1:N", "($y:prop ?x.1:prop)"}, api.ErrType}, {[]string{"$x:'a", "$y:'a{c}"}, api.ErrSort}, {[]string{"$x:N", "$x:prop", "$z:?a.0", "$y:?a.0{c}"}, api.ErrSort}, {[]string{"$x:'a", "$y:?a.0{c}"}, api.OK},
+	} {
+		var l []api.Term
+		for _, s := range c.l {
+			l = append(l, of(s))
+		}
+		if e := Agree(l); e != c.e {
+			t.Error(i, e)
+		}
+	}
+}
+
+// An Instance knows how large a term will be.
+func TestP31Instance(t *testing.T) {
+	big := of("(s:fun(N, N) z:N)")
+	x := NewInstance(api.Inst{Types: []api.TypeBind{{Name: "a", To: typ("list(list(nat))")}}, Terms: []api.TermBind{{Name: "v", To: big}, {Name: "v", To: of("z:N")}}})
+	for i, s := range []string{"?v.0:N", "(f:N ?v.0:N)", "?v.1:?a.0", "(\\x:?a.0 . ((f:N ?v.0:N) ?v.0:N))", "z:N"} {
+		n, d := x.Size(of(s))
+		n2, d2 := Size(x.Apply(of(s)))
+		if n != n2 || d != d2 {
+			t.Error(i, n, d)
+		}
+	}
+	if !x.TypesWithin(of("$k:?a.0"), 3, 3) || x.TypesWithin(of("(f:N $k:?a.0)"), 2, 3) || x.TypesWithin(of("(\\x:?a.0 . #0)"), 3, 2) || !x.TypesWithin(of("?v.0:?a.0"), 1, 1) {
+		t.Error("types")
+	}
+	y := of("?v.0:N")
+	for range 40 {
+		y = app(y, y)
+		x = NewInstance(api.Inst{Terms: []api.TermBind{{Name: "v", To: y}}})
+		if n, _ := Size(y); n > 1000 {
+			break
+		}
+	}
+	n, _ := Size(y)
+	if m, _ := x.Size(y); m != (n+1)/2*n+(n-1)/2 {
+		t.Error(m)
+	}
+}

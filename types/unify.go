@@ -12,29 +12,39 @@ import (
 const maxBound = 2000
 
 // Unify returns the most general binds that make types equal.
-func Unify(thy api.Theory, a, b api.Type) (out []api.TypeBind, err api.Errno) {
+func Unify(thy api.Theory, a, b api.Type) ([]api.TypeBind, api.Errno) {
 	g, e := sort.Sign(thy)
 	if e != api.OK {
 		return nil, e
 	}
+	out, _, e := UnifyIn(g, a, b, max(MaxIndex(a), MaxIndex(b))+1)
+	return out, e
+}
+
+// UnifyIn is Unify in a theory whose signature is known, but its new variables have indices from a number on, which is above those of both types. It returns the index for the next one, too.
+func UnifyIn(g sort.Signature, a, b api.Type, next int) (out []api.TypeBind, behind int, err api.Errno) {
 	if e := CheckIn(g, a); e != api.OK {
-		return nil, e
+		return nil, 0, e
 	}
 	if e := CheckIn(g, b); e != api.OK {
-		return nil, e
+		return nil, 0, e
 	}
 	var s Sorts
 	if e := cmp.Or(s.Add(a), s.Add(b)); e != api.OK {
-		return nil, e
+		return nil, 0, e
 	}
 	defer func() {
 		if r := recover(); r != nil {
-			out, err = nil, errorOf(r)
+			out, behind, err = nil, 0, errorOf(r)
 		}
 	}()
-	u := unifier{sign: g, known: binds{}, next: max(MaxIndex(a), MaxIndex(b)) + 1}
+	u := unifier{sign: g, known: binds{}, next: next}
 	u.unify(a, b)
-	return u.result()
+	out, e := u.result()
+	if e != api.OK {
+		return nil, 0, e
+	}
+	return out, u.next, api.OK
 }
 
 // errorOf returns the code with which unification was left.

@@ -362,3 +362,26 @@ func TestP26Instances(t *testing.T) {
 		t.Error(tried)
 	}
 }
+
+// UnifyIn is Unify with new variables from an index on, which it returns for the next one.
+func TestP21UnifyIn(t *testing.T) {
+	g, e := sort.Sign(small())
+	if e != api.OK {
+		t.Fatal(e)
+	}
+	for i, x := range []struct {
+		a, b string
+		next int
+		want string
+		left int
+		e    api.Errno
+	}{
+		{"?a.0{c}", "?b.0{d}", 7, "a.0=?b.7{c,d} b.0=?b.7{c,d}", 8, api.OK}, {"?a.0", "nat", 7, "a.0=nat", 7, api.OK}, {"fun(?x.0{c}, ?y.0{d})", "fun(list(?b.0), list(?b.0))", 5, "b.0=?b.6{c,d} b.5=?b.6{c,d} x.0=list(?b.6{c,d}) y.0=list(?b.6{c,d})", 7, api.OK},
+		{"nat", "prop", 7, "", 0, api.ErrFail}, {"set", "nat", 7, "", 0, api.ErrMissing}, {"nat", "set", 7, "", 0, api.ErrMissing}, {"?a.0", "?a.0{c}", 7, "", 0, api.ErrSort},
+	} {
+		l, left, e := UnifyIn(g, of(x.a), of(x.b), x.next)
+		if bindText(l) != x.want || left != x.left || e != x.e {
+			t.Error(i, bindText(l), left, e)
+		}
+	}
+}
