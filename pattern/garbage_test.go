@@ -56,7 +56,7 @@ func wildInst(r *rand.Rand) api.Inst {
 // Functions of any arguments do not panic: with an error they return nothing else.
 func TestP91Garbage(t *testing.T) {
 	thy := small()
-	for seed := range 30000 {
+	for seed := range 12000 {
 		r := rand.New(rand.NewSource(int64(seed)))
 		a, b := wild(r, 4), wild(r, 4)
 		if r.Intn(3) == 0 {

@@ -234,7 +234,7 @@ func pairText(l []Pair) string {
 func TestP92Random(t *testing.T) {
 	thy := small()
 	counts := map[api.Errno]int{}
-	for seed := range 5000 {
+	for seed := range 2500 {
 		g := newGen(seed)
 		l := g.pairs()
 		i, e := Unify(thy, l)
@@ -247,7 +247,7 @@ func TestP92Random(t *testing.T) {
 			t.Fatal(seed, pairText(l), instText(i))
 		}
 	}
-	if counts[api.OK] < 2000 || counts[api.ErrFail] < 1000 {
+	if counts[api.OK] < 1000 || counts[api.ErrFail] < 500 {
 		t.Error(counts)
 	}
 }
@@ -256,7 +256,7 @@ func TestP92Random(t *testing.T) {
 func TestP92RandomMatch(t *testing.T) {
 	thy := small()
 	counts := map[api.Errno]int{}
-	for seed := range 10000 {
+	for seed := range 4000 {
 		g := newGen(seed)
 		k := g.typ(2)
 		p := g.of(k, nil, 3)
@@ -292,7 +292,7 @@ func TestP92RandomMatch(t *testing.T) {
 			}
 		}
 	}
-	if counts[api.OK] < 3000 || counts[api.ErrFail] < 1000 {
+	if counts[api.OK] < 1200 || counts[api.ErrFail] < 400 {
 		t.Error(counts)
 	}
 }
@@ -314,7 +314,7 @@ func closedTerm(t api.Term) api.Term {
 func TestP93Random(t *testing.T) {
 	thy := small()
 	solved := 0
-	for seed := range 6000 {
+	for seed := range 3000 {
 		g := newGen(seed)
 		k := g.typ(2)
 		a := g.of(k, nil, 3)
@@ -345,7 +345,7 @@ func TestP93Random(t *testing.T) {
 			t.Fatal(seed, e, pairText(l), instText(both), instText(i))
 		}
 	}
-	if solved < 1500 {
+	if solved < 700 {
 		t.Error(solved)
 	}
 }
@@ -374,7 +374,7 @@ func joined(a, b api.Inst) (api.Inst, bool) {
 // Sides and pairs may be exchanged.
 func TestP94Random(t *testing.T) {
 	thy := small()
-	for seed := range 4000 {
+	for seed := range 2000 {
 		g := newGen(seed)
 		l := g.pairs()
 		_, e := Unify(thy, l)

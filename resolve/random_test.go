@@ -222,7 +222,7 @@ func TestP121Random(t *testing.T) {
 	thy := little()
 	found := map[int]int{}
 	codes := map[api.Errno]int{}
-	for seed := range 5000 {
+	for seed := range 2500 {
 		g := newGen(seed)
 		s, ok := g.scene()
 		if !ok {
@@ -250,7 +250,7 @@ func TestP121Random(t *testing.T) {
 			}
 		}
 	}
-	if found[Rule] < 800 || found[Erule] < 400 || found[Drule] < 600 || codes[api.ErrFail] < 100 {
+	if found[Rule] < 400 || found[Erule] < 200 || found[Drule] < 300 || codes[api.ErrFail] < 50 {
 		t.Error(found, codes)
 	}
 }
@@ -259,7 +259,7 @@ func TestP121Random(t *testing.T) {
 func TestP121RandomSolved(t *testing.T) {
 	thy := little()
 	found := 0
-	for seed := range 6000 {
+	for seed := range 2500 {
 		g := newGen(seed)
 		s, ok := g.scene()
 		if !ok {
@@ -277,7 +277,7 @@ func TestP121RandomSolved(t *testing.T) {
 			}
 		}
 	}
-	if found < 1000 {
+	if found < 400 {
 		t.Error(found)
 	}
 }
@@ -285,7 +285,7 @@ func TestP121RandomSolved(t *testing.T) {
 // Raised and lifted rules.
 func TestP121RandomLift(t *testing.T) {
 	lifted := 0
-	for seed := range 6000 {
+	for seed := range 2500 {
 		g := newGen(seed)
 		s, ok := g.scene()
 		if !ok {
@@ -317,14 +317,14 @@ func TestP121RandomLift(t *testing.T) {
 		}
 		lifted++
 	}
-	if lifted < 3000 {
+	if lifted < 1200 {
 		t.Error(lifted)
 	}
 }
 
 // Whole of Split is flat, with the same parts; of what is flat it is the term.
 func TestP123Random(t *testing.T) {
-	for seed := range 6000 {
+	for seed := range 2500 {
 		g := newGen(seed)
 		x := g.of(g.subgoal(nil, 5))
 		s := Split(x)
@@ -353,7 +353,7 @@ func TestP123Random(t *testing.T) {
 
 // A subgoal without parameters and assumptions is solved by a theorem that states it.
 func TestP124Random(t *testing.T) {
-	for seed := range 3000 {
+	for seed := range 1500 {
 		g := newGen(seed)
 		a := closedTerm(g.of(g.atom(nil, 2)))
 		if len(term.Frees(a)) > 0 && slices.ContainsFunc(term.TypeVariables(a), func(v api.Type) bool { return v.Op == api.TFree }) {
@@ -397,7 +397,7 @@ func closedTerm(t api.Term) api.Term {
 // A sequence that is stopped has yielded the first ones, and yields them again.
 func TestP125Random(t *testing.T) {
 	several := 0
-	for seed := range 400 {
+	for seed := range 200 {
 		g := newGen(seed)
 		s, ok := g.scene()
 		if !ok {
@@ -436,7 +436,7 @@ func TestP125Random(t *testing.T) {
 			several++
 		}
 	}
-	if several < 10 {
+	if several < 5 {
 		t.Error(several)
 	}
 }

@@ -220,7 +220,7 @@ func pairText(l []pattern.Pair) string {
 func TestP101Random(t *testing.T) {
 	thy := small()
 	found, flex, none, beyond := 0, 0, 0, 0
-	for seed := range 4000 {
+	for seed := range 2000 {
 		g := newGen(seed)
 		l := g.pairs()
 		depth := g.Intn(4)
@@ -249,7 +249,7 @@ func TestP101Random(t *testing.T) {
 			none++
 		}
 	}
-	if found < 2000 || flex < 1000 || none < 1000 || beyond > 20 {
+	if found < 1000 || flex < 500 || none < 500 || beyond > 10 {
 		t.Error(found, flex, none, beyond)
 	}
 }
@@ -258,7 +258,7 @@ func TestP101Random(t *testing.T) {
 func TestP102Random(t *testing.T) {
 	thy := small()
 	solved := 0
-	for seed := range 4000 {
+	for seed := range 2000 {
 		g := newGen(seed)
 		l := g.pairs()
 		us, _, e := First(thy, l, 3, 10)
@@ -276,7 +276,7 @@ func TestP102Random(t *testing.T) {
 			solved++
 		}
 	}
-	if solved < 2000 {
+	if solved < 1000 {
 		t.Error(solved)
 	}
 }
@@ -307,7 +307,7 @@ func (g *gen) patterns(t api.Term) (api.Term, bool) {
 func TestP103Random(t *testing.T) {
 	thy := small()
 	unified, failed := 0, 0
-	for seed := range 4000 {
+	for seed := range 2000 {
 		g := newGen(seed)
 		var l []pattern.Pair
 		for _, p := range g.pairs() {
@@ -344,7 +344,7 @@ func TestP103Random(t *testing.T) {
 			}
 		}
 	}
-	if unified < 1000 || failed < 500 {
+	if unified < 500 || failed < 250 {
 		t.Error(unified, failed)
 	}
 }
@@ -383,7 +383,7 @@ func (g *gen) body(around []api.Type, t api.Type, most int, count *int) (api.Ter
 func TestP104Random(t *testing.T) {
 	thy := small()
 	found := 0
-	for seed := range 6000 {
+	for seed := range 3000 {
 		g := newGen(seed)
 		n, count := g.Intn(3), 0
 		k := typ("N")
@@ -421,7 +421,7 @@ func TestP104Random(t *testing.T) {
 		}
 		found++
 	}
-	if found < 1500 {
+	if found < 750 {
 		t.Error(found)
 	}
 }
@@ -429,7 +429,7 @@ func TestP104Random(t *testing.T) {
 // The first unifiers are the same, however many are asked for, and asked again.
 func TestP105Random(t *testing.T) {
 	thy := small()
-	for seed := range 600 {
+	for seed := range 300 {
 		g := newGen(seed)
 		l := g.pairs()
 		all := All(thy, l, 3)
