@@ -80,8 +80,7 @@ type meeting struct {
 	lifted   liftedRule
 }
 
-// meet returns how a rule meets a state: the errors of two theorems.
-// The rule counts as raised: its variables are others than those of the state, also where they have one name and index.
+// meet returns how a rule meets a state: the errors of two theorems, as they are given.
 func meet(rule, state kernel.Theorem) (meeting, api.Errno) {
 	if !rule.Is() || !state.Is() {
 		return meeting{}, kernel.ErrNone
@@ -91,10 +90,11 @@ func meet(rule, state kernel.Theorem) (meeting, api.Errno) {
 		return meeting{}, e
 	}
 	m := meeting{base: base, rule: newSide(rule), state: newSide(state)}
-	m.by = term.MaxIndex(combined(m.state.all())) + 1
-	if e := term.Agree(slices.Concat(m.rule.raise(m.by).all(), m.state.all())); e != api.OK {
+	// Not of the raised rule: its variables are others than those of the state, so it would agree where the two theorems do not.
+	if e := term.Agree(slices.Concat(m.rule.all(), m.state.all())); e != api.OK {
 		return meeting{}, e
 	}
+	m.by = term.MaxIndex(combined(m.state.all())) + 1
 	return m, api.OK
 }
 

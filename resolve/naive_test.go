@@ -26,6 +26,27 @@ func equalSays(a, b says) bool {
 	return slices.EqualFunc(a.hyps, b.hyps, term.Equal) && term.Equal(a.prop, b.prop) && slices.Equal(a.oracles, b.oracles)
 }
 
+// twoTheorems is the error of two theorems, which layer 6 has for them: theirs is another one where one does not state what follows from the other one.
+func twoTheorems(rule, state kernel.Theorem) api.Errno {
+	_, e := kernel.ImpElim(state, rule)
+	if e == api.ErrFail {
+		return api.OK
+	}
+	return e
+}
+
+// meetError is the error of a rule and a state, at a subgoal that there is.
+func meetError(rule, state kernel.Theorem, at int) api.Errno {
+	if e := twoTheorems(rule, state); e != api.OK {
+		return e
+	}
+	goals, _ := term.Strip(state.Prop())
+	if len(Split(goals[at]).Params) > 0 && len(term.Vars(api.Term{Kids: rule.Hyps()})) > 0 {
+		return api.ErrFail
+	}
+	return api.OK
+}
+
 func union[T any](a, b []T, compare func(T, T) int) []T {
 	l := slices.Concat(a, b)
 	slices.SortFunc(l, compare)

@@ -16,12 +16,12 @@ import (
 // gen makes random rules and states.
 type gen struct {
 	*rand.Rand
-	rule bool // Vars of rules and states have the same names
+	typed bool // there are Frees whose types have TVars
 }
 
 func (g *gen) pick(l ...string) string { return l[g.Intn(len(l))] }
 
-const randomKinds = kinds + "; ?E: ?a>?a>P; ?u: ?a; ?v: ?a; ?o: ?b{c}; ?M: N>?a; ?D: N>N>P; ?H: N; ?H.1: N>P; ?H.2: P; ?H.3: N>N; ?H.4: N; ?H.5: P"
+const randomKinds = kinds + "; ?E: ?a>?a>P; ?u: ?a; ?v: ?a; ?o: ?b{c}; ?M: N>?a; ?D: N>N>P; ?H: N; ?H.1: N>P; ?H.2: P; ?H.3: N>N; ?H.4: N; ?H.5: P; $f: ?a; $g: ?b{c}"
 
 // nat returns a term of the type nat within parameters.
 func (g *gen) nat(params []string, depth int) string {
@@ -42,6 +42,9 @@ func (g *gen) nat(params []string, depth int) string {
 
 // atom returns a proposition within parameters.
 func (g *gen) atom(params []string, depth int) string {
+	if g.typed && g.Intn(3) == 0 {
+		return g.pick("(e $f $f)", "(e $f ?u)", "(?E $f ?v)", "(o $g)", "((%k:?a. A) $f)")
+	}
 	switch g.Intn(12) {
 	case 0:
 		return g.pick("A", "B", "C")
@@ -209,7 +212,7 @@ func (g *gen) scene() (scene, bool) {
 	return s, ok
 }
 
-func newGen(seed int) *gen { return &gen{Rand: rand.New(rand.NewSource(int64(seed)))} }
+func newGen(seed int) *gen { return &gen{rand.New(rand.NewSource(int64(seed))), seed%4 == 3} }
 
 // taken reports whether the checker takes the proof of a theorem, and finds what it states.
 func taken(t kernel.Theorem) bool {
@@ -230,6 +233,9 @@ func TestP121Random(t *testing.T) {
 		}
 		got, more, e := First(s.rule, s.at, s.state, s.kind, 4, 6)
 		codes[e]++
+		if want := meetError(s.rule, s.state, s.at); e != want {
+			t.Fatal(seed, e, want, theoremText(s.rule), theoremText(s.state))
+		}
 		if e != api.OK {
 			continue
 		}
@@ -284,7 +290,7 @@ func TestP121RandomSolved(t *testing.T) {
 
 // Raised and lifted rules.
 func TestP121RandomLift(t *testing.T) {
-	lifted := 0
+	lifted, codes := 0, map[api.Errno]int{}
 	for seed := range 2500 {
 		g := newGen(seed)
 		s, ok := g.scene()
@@ -293,32 +299,41 @@ func TestP121RandomLift(t *testing.T) {
 		}
 		rule, state := what(s.rule), what(s.state)
 		raised := naiveRaise(rule, state)
+		hyps := union(raised.hyps, nil, term.Compare)
 		r, e := Raised(s.rule, s.state)
-		if e != api.OK || !equalSays(what(r), says{union(raised.hyps, nil, term.Compare), raised.prop, rule.oracles}) || !taken(r) {
-			t.Fatal(seed, e, theoremText(s.rule), theoremText(s.state), theoremText(r))
+		if e != twoTheorems(s.rule, s.state) || r.Is() != (e == api.OK) {
+			t.Fatal(seed, e, theoremText(s.rule), theoremText(s.state))
+		}
+		if e == api.OK && (!equalSays(what(r), says{hyps, raised.prop, rule.oracles}) || !taken(r)) {
+			t.Fatal(seed, theoremText(s.rule), theoremText(s.state), theoremText(r))
 		}
 		goals, _ := term.Strip(state.prop)
 		sub := Split(goals[s.at])
-		l, e := Lift(s.rule, s.at, s.state)
-		if len(sub.Params) > 0 && len(term.Vars(api.Term{Kids: rule.hyps})) > 0 {
-			if e != api.ErrFail || l.Is() {
-				t.Fatal(seed, e)
-			}
-			continue
-		}
 		premises, c := term.Strip(raised.prop)
 		for i := range premises {
 			premises[i] = Whole(Subgoal{sub.Params, sub.Hyps, naiveLift(sub.Params, premises[i])})
 		}
 		c = Whole(Subgoal{sub.Params, sub.Hyps, naiveLift(sub.Params, c)})
-		want := says{union(raised.hyps, nil, term.Compare), imply(premises, c), rule.oracles}
-		if e != api.OK || !equalSays(what(l), want) || !taken(l) {
-			t.Fatal(seed, e, theoremText(s.rule), "\n", theoremText(s.state), "\n", theoremText(l), "\n", brief(want.prop))
+		want := says{hyps, imply(premises, c), rule.oracles}
+		code := meetError(s.rule, s.state, s.at)
+		if code == api.OK {
+			code = term.Agree(append(slices.Clone(hyps), want.prop))
+		}
+		l, e := Lift(s.rule, s.at, s.state)
+		codes[e]++
+		if e != code || l.Is() != (e == api.OK) {
+			t.Fatal(seed, e, code, theoremText(s.rule), "\n", theoremText(s.state))
+		}
+		if e != api.OK {
+			continue
+		}
+		if !equalSays(what(l), want) || !taken(l) {
+			t.Fatal(seed, theoremText(s.rule), "\n", theoremText(s.state), "\n", theoremText(l), "\n", brief(want.prop))
 		}
 		lifted++
 	}
-	if lifted < 1200 {
-		t.Error(lifted)
+	if lifted < 1000 || codes[api.ErrFail] < 50 || codes[api.ErrType] < 100 {
+		t.Error(lifted, codes)
 	}
 }
 
@@ -355,6 +370,7 @@ func TestP123Random(t *testing.T) {
 func TestP124Random(t *testing.T) {
 	for seed := range 1500 {
 		g := newGen(seed)
+		g.typed = false // their types are others in the raised theorem
 		a := closedTerm(g.of(g.atom(nil, 2)))
 		if len(term.Frees(a)) > 0 && slices.ContainsFunc(term.TypeVariables(a), func(v api.Type) bool { return v.Op == api.TFree }) {
 			continue // constants with other types

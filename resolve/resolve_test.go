@@ -190,7 +190,7 @@ func TestP121Errors(t *testing.T) {
 	}{
 		{rule, 0, state, Rule, 0, 0, api.OK}, {none, -1, none, 0, -1, -1, kernel.ErrNone}, {rule, -1, none, 0, -1, -1, kernel.ErrNone}, {none, -1, state, 0, -1, -1, kernel.ErrNone},
 		{in(more, "A"), -1, in(other, "B ==> C"), 0, -1, -1, api.ErrTheory}, {in(more, "A"), 0, in(thy, "A ==> C"), Rule, 1, 1, api.OK}, {in(thy, "A"), 0, in(more, "A ==> C"), Rule, 1, 1, api.OK},
-		{with("$n: N", "p $n"), -1, with("$n: P", "$n ==> A"), 0, -1, -1, api.ErrType}, {with("$n: N; $k: 'a{c}; o: 'a{c}>P", "o $k"), -1, with("$k: 'a; e: 'a>'a>P", "e $k $k ==> A"), 0, -1, -1, api.ErrSort}, {with("?x: N", "p ?x"), 0, with("?x: P", "?x ==> A"), Rule, 1, 1, api.OK}, {with("?k: ?a{c}; o: ?a{c}>P", "o ?k"), 0, with("?k: ?a; e: ?a>?a>P", "e ?k ?k ==> A"), Rule, 1, 1, api.OK},
+		{with("$n: N", "p $n"), -1, with("$n: P", "$n ==> A"), 0, -1, -1, api.ErrType}, {with("$n: N; $k: 'a{c}; o: 'a{c}>P", "o $k"), -1, with("$k: 'a; e: 'a>'a>P", "e $k $k ==> A"), 0, -1, -1, api.ErrSort}, {with("?x: N", "p ?x"), -1, with("?x: P", "?x ==> A"), 0, -1, -1, api.ErrType}, {with("?k: ?a{c}; o: ?a{c}>P", "o ?k"), -1, with("?k: ?a; e: ?a>?a>P", "e ?k ?k ==> A"), 0, -1, -1, api.ErrSort},
 		{rule, -1, state, 0, -1, -1, api.ErrArgument}, {rule, -1, state, 4, -1, -1, api.ErrArgument}, {rule, -1, state, Rule, -1, -1, ErrSubgoal}, {rule, 1, state, Drule, -1, -1, ErrSubgoal}, {rule, 0, by("A"), Erule, 0, 0, ErrSubgoal},
 		{rule, 0, state, Rule, -1, 0, api.ErrRange}, {rule, 0, state, Rule, 61, 0, api.ErrRange}, {rule, 0, state, Rule, 60, 1000, api.OK}, {rule, 0, state, Rule, 0, -1, api.ErrRange}, {rule, 0, state, Rule, 0, 1001, api.ErrRange},
 		{by("q ?x |- A"), 0, param, Rule, -1, 0, api.ErrRange}, {by("q ?x |- A"), 0, param, Rule, 0, 0, api.ErrFail}, {by("q $n |- A"), 0, param, Rule, 0, 0, api.OK}, {by("q ?x |- A"), 0, by("(A ==> B) ==> B"), Rule, 0, 0, api.OK},
@@ -210,6 +210,85 @@ func TestP121Errors(t *testing.T) {
 		l, _, _ := First(x[0], 0, x[1], Rule, 1, 1)
 		lifted, e := Lift(x[0], 0, x[1])
 		if len(l) != 1 || l[0].Theory().Name != "More" || e != api.OK || lifted.Theory().Name != "More" {
+			t.Error(i, e)
+		}
+	}
+}
+
+// The error of two theorems is that of the rule and the state as they are given: raised, the rule would have other variables.
+func TestP121TwoTheorems(t *testing.T) {
+	const sorted = "?u: ?a{c}; $u: 'a{c}; o: ?a{c}>P"
+	in := func(kinds, s string) kernel.Theorem { return stated(kinds, s) }
+	for i, x := range []struct {
+		rule, state kernel.Theorem
+		e           api.Errno
+	}{
+		{in("?x: N", "p ?x ==> p ?x"), in("?x: 'a; $z: 'a; e: 'a>'a>P", "A ==> e $z ?x"), api.ErrType}, {in("?x: N", "p ?x ==> p ?x"), in("?x: ?a; e: ?a>?a>P", "A ==> e ?x ?x"), api.ErrType}, {in("?x: N", "p ?x |- A"), in("?x: P", "A ==> ?x"), api.ErrType}, {in("?x: N", "p ?x"), in("?x: P", "?x |- A ==> B"), api.ErrType}, {in("$n: N", "p $n"), in("$n: P", "A ==> $n"), api.ErrType}, {in("?x.1: N", "p ?x.1"), in("?x.1: P", "A ==> ?x.1"), api.ErrType}, {in("$f: ?a; e: ?a>?a>P", "e $f $f"), in("$f: ?a.1; e: ?a.1>?a.1>P", "A ==> e $f $f"), api.ErrType},
+		{in(sorted, "o ?u ==> A"), in("?v: ?a; e: ?a>?a>P", "A ==> e ?v ?v"), api.ErrSort}, {in("?v: ?a; e: ?a>?a>P", "A ==> e ?v ?v"), in(sorted, "o ?u ==> A"), api.ErrSort}, {in("$u: 'a{c}; o: 'a{c}>P", "o $u"), in("$v: 'a; e: 'a>'a>P", "A ==> e $v $v"), api.ErrSort},
+		{in(sorted+"; ?x: N", "o ?u ==> p ?x"), in("?u: ?a; ?x: P; e: ?a>?a>P", "?x ==> e ?u ?u"), api.ErrSort}, // and types
+		{in("?x: N", "p ?x"), in("?x.1: P", "A ==> ?x.1"), api.OK}, {in("?x.1: N", "p ?x.1"), in("?x: P", "A ==> ?x"), api.OK}, {in("?x: N", "p ?x"), in("$x: P", "A ==> $x"), api.OK}, {in("?x: N", "p ?x"), in("?x: N", "A ==> q ?x"), api.OK}, {in(sorted, "o ?u"), in("?v: ?a.1; e: ?a.1>?a.1>P", "A ==> e ?v ?v"), api.OK}, {in(sorted, "o ?u"), in("?v: 'a; e: 'a>'a>P", "A ==> e ?v ?v"), api.OK}, {in("$f: ?a; e: ?a>?a>P", "e $f $f"), in("$f: ?a; e: ?a>?a>P", "A ==> e $f $f"), api.OK},
+	} {
+		if e := twoTheorems(x.rule, x.state); e != x.e {
+			t.Error(i, "of layer 6:", e)
+		}
+		raised, e := Raised(x.rule, x.state)
+		if e != x.e || raised.Is() != (e == api.OK) {
+			t.Error(i, "Raised:", e)
+		}
+		lifted, e := Lift(x.rule, 0, x.state)
+		if e != x.e || lifted.Is() != (e == api.OK) {
+			t.Error(i, "Lift:", e)
+		}
+		for kind := Rule; kind <= Drule; kind++ {
+			if l, more, e := First(x.rule, 0, x.state, kind, 3, 5); e != x.e || e != api.OK && (len(l) > 0 || more) {
+				t.Error(i, "First:", kind, e)
+			}
+			for range Compose(x.rule, 0, x.state, kind, 3) {
+				if x.e != api.OK {
+					t.Error(i, "Compose:", kind)
+				}
+			}
+		}
+		if x.e == api.OK {
+			continue
+		}
+		// ahead of all other errors
+		_, a := Lift(x.rule, -1, x.state)
+		_, _, b := First(x.rule, -1, x.state, 0, -1, -1)
+		c, d := Of(x.state, x.rule, -1)
+		if a != x.e || b != x.e || c.Is() || d != x.e {
+			t.Error(i, a, b, d)
+		}
+	}
+}
+
+// A Free whose type has a TVar has another type in the raised rule: what has both of them is no theorem.
+func TestP121RaisedTypes(t *testing.T) {
+	const kinds = "$f: ?a; ?u: ?a; e: ?a>?a>P; ?P: P"
+	for i, x := range []struct {
+		rule, state string
+		n           int
+		lift        api.Errno
+	}{
+		{"e $f $f", "e $f $f ==> A", 0, api.OK}, {"e $f $f ==> A", "A ==> e $f $f", 0, api.OK}, {"e $f $f ==> A", "A ==> B", 1, api.OK}, {"A ==> A", "A ==> e $f $f", 1, api.OK},
+		{"e $f $f", "(e $f $f ==> A) ==> B", 0, api.ErrType}, {"e $f $f |- A", "A ==> e $f $f", 0, api.OK}, {"e $f $f |- A", "(e $f $f ==> A) ==> B", 0, api.ErrType}, {"(%k:?a. A) $f", "A ==> e $f $f", 1, api.OK},
+	} {
+		rule, state := stated(kinds, x.rule), stated(kinds, x.state)
+		l, more, e := First(rule, 0, state, Rule, 3, 5)
+		if e != api.OK || more || len(l) != x.n {
+			t.Error(i, e, len(l))
+		}
+		for _, r := range l {
+			if !taken(r) {
+				t.Error(i, "not taken")
+			}
+		}
+		r, e := Raised(rule, state)
+		if e != api.OK || !taken(r) {
+			t.Error(i, e)
+		}
+		r, e = Lift(rule, 0, state)
+		if e != x.lift || r.Is() != (e == api.OK) || r.Is() && !taken(r) {
 			t.Error(i, e)
 		}
 	}

@@ -406,7 +406,7 @@ func TestP131Errors(t *testing.T) {
 
 func TestP132Prove(t *testing.T) {
 	thy := little()
-	rules := []kernel.Theorem{by("A ==> B"), by("A"), by("?P ==> ?Q ==> And ?P ?Q"), by("And ?P ?Q ==> (?P ==> ?Q ==> ?R) ==> ?R"), by("Ex ?F ==> (!!x:N. ?F x ==> ?Q) ==> ?Q"), by("(!!x:N. ?F x) ==> All ?F"), by("?F ?x ==> Ex ?F"), by("All ?F ==> ?F ?x"), by("C |- A")}
+	rules := []kernel.Theorem{by("A ==> B"), by("A"), by("?P ==> ?Q ==> And ?P ?Q"), by("And ?P ?Q ==> (?P ==> ?Q ==> ?R) ==> ?R"), by("Ex ?F ==> (!!x:N. ?F x ==> ?Q) ==> ?Q"), by("(!!x:N. ?F x) ==> All ?F"), by("?F ?x ==> Ex ?F"), by("All ?F ==> ?F ?y"), by("C |- A"), by("All ?F ==> ?F ?x")}
 	chain := func(l ...Expr) Expr {
 		e := l[0]
 		for _, x := range l[1:] {
@@ -426,6 +426,7 @@ func TestP132Prove(t *testing.T) {
 		{"And A B ==> And B A", chain(e(Erule, 3), rule(2), Expr{Kind: Assume}, Expr{Kind: Assume}), 9, "And A B ==> And B A", api.OK}, {"A ==> A", Expr{Kind: Assume}, 1, "A ==> A", api.OK}, {"And A (And B A)", node(Repeat, node(Else, rule(2), node(Else, rule(1), rule(0)))), 90, "And A (And B A)", api.OK},
 		// quantifiers: the variables of rules are others each time
 		{"Ex (%v:N. All (%w:N. r v w)) ==> All (%w:N. Ex (%v:N. r v w))", chain(e(Erule, 4), rule(5), rule(6), e(Drule, 7), Expr{Kind: Assume}), 9, "Ex (%v:nat. All (%w:nat. r #1 #0)) ==> All (%w:nat. Ex (%v:nat. r #0 #1))", api.OK},
+		{"Ex (%v:N. All (%w:N. r v w)) ==> All (%w:N. Ex (%v:N. r v w))", chain(e(Erule, 4), rule(5), rule(6), e(Drule, 9), Expr{Kind: Assume}), 9, "", api.ErrFail}, // the state has the ?x of the rule, at another type: an error of the two theorems
 		{"All (%v:N. Ex (%w:N. r v w)) ==> Ex (%w:N. All (%v:N. r v w))", chain(rule(6), rule(5), e(Drule, 7), e(Erule, 4), Expr{Kind: Assume}), 9, "", api.ErrFail},
 		{"p ?x ==> p a", Expr{Kind: Assume}, 3, "p a ==> p a", api.OK}, {"?P", rule(1), 3, "A", api.OK}, // an instance
 		{"a", node(Pass), 0, "", api.ErrType},
