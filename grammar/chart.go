@@ -13,10 +13,17 @@ type set struct {
 	met   map[state]bool
 	waits map[string][]state // states whose next item is a Symbol
 	least map[string]int     // of each Symbol that is waited for the least priority
+	top   map[place]int      // of each symbol that ends here, by its beginning, the greatest priority
+}
+
+// place is a symbol that begins at a token.
+type place struct {
+	symbol string
+	from   int
 }
 
 func newSet() *set {
-	return &set{met: map[state]bool{}, waits: map[string][]state{}, least: map[string]int{}}
+	return &set{met: map[state]bool{}, waits: map[string][]state{}, least: map[string]int{}, top: map[place]int{}}
 }
 
 func (s *set) add(x state) {
@@ -128,10 +135,17 @@ func (c *chart) expect(here *set, symbol string, prio, at int) {
 }
 
 // complete goes on with the states that waited for a production. It began ahead of this set, as no production is empty.
+// Those that another one of the same tokens has served already are left out.
 func (c *chart) complete(here *set, s state) {
 	p := c.g[s.prod]
+	k := place{p.Left, s.from}
+	old, ok := here.top[k]
+	if ok && old >= p.Prio {
+		return
+	}
+	here.top[k] = p.Prio
 	for _, w := range c.sets[s.from].waits[p.Left] {
-		if c.g[w.prod].Items[w.dot].Prio <= p.Prio {
+		if least := c.g[w.prod].Items[w.dot].Prio; least <= p.Prio && (!ok || least > old) {
 			here.add(state{w.prod, w.dot + 1, w.from})
 		}
 	}

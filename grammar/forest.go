@@ -5,12 +5,6 @@ import (
 	"slices"
 )
 
-// place is a symbol that begins at a token.
-type place struct {
-	symbol string
-	from   int
-}
-
 // span is some tokens in a row.
 type span struct {
 	from, to int
