@@ -4,18 +4,11 @@ import (
 	"slices"
 
 	"triforium/api"
+	"triforium/derive"
 	"triforium/kernel"
 	"triforium/term"
 	"triforium/types"
 )
-
-// instantiate is kernel.Instantiate, but for binds without which the theorem stays the same.
-func instantiate(i api.Inst, t kernel.Theorem) (kernel.Theorem, api.Errno) {
-	if len(i.Types) == 0 && len(i.Terms) == 0 {
-		return t, api.OK
-	}
-	return kernel.Instantiate(i, t)
-}
 
 // raising returns the instantiation that adds a number to the indices of all variables of a side.
 func raising(s side, by int) api.Inst {
@@ -74,7 +67,7 @@ func (m *meeting) forRule(i api.Inst, params []api.Term) api.Inst {
 }
 
 // open takes a proposition apart along its shape: with new Frees for the variables, or those that are given.
-func (p *prover) open(shape []bool, t api.Term, given []api.Term) (params, hyps []api.Term, concl api.Term) {
+func open(p *derive.Prover, shape []bool, t api.Term, given []api.Term) (params, hyps []api.Term, concl api.Term) {
 	for _, isAll := range shape {
 		if !isAll {
 			a, b, _ := implies(t)
@@ -87,7 +80,7 @@ func (p *prover) open(shape []bool, t api.Term, given []api.Term) (params, hyps 
 		if len(params) < len(given) {
 			x = given[len(params)]
 		} else {
-			x = p.fresh(abs.Name, abs.Type)
+			x = p.Fresh(abs.Name, abs.Type)
 		}
 		params = append(params, x)
 		t = term.Put(abs.Kids[0], x)
@@ -100,11 +93,11 @@ func closing(shape []bool, params, hyps []api.Term, t kernel.Theorem) kernel.The
 	for _, isAll := range slices.Backward(shape) {
 		if isAll {
 			last := len(params) - 1
-			t = generally(t, params[last])
+			t = derive.Generally(t, params[last])
 			params = params[:last]
 		} else {
 			last := len(hyps) - 1
-			t = discharge(t, hyps[last])
+			t = derive.Discharge(t, hyps[last])
 			hyps = hyps[:last]
 		}
 	}
@@ -116,7 +109,7 @@ type proving func(d *derivation) kernel.Theorem
 
 // derivation is where the proof of a resolvent stands: all terms are behind the instantiation, and normal.
 type derivation struct {
-	*prover
+	*derive.Prover
 	shapes [][]bool         // of the premises of the rule
 	params []api.Term       // Frees for the parameters of the subgoal
 	hyps   []api.Term       // its assumptions
@@ -129,21 +122,21 @@ type derivation struct {
 
 // derive returns the theorem that a resolvent is: the normal forms of the state's proposition, and of its own one, behind the instantiation are given.
 func (m *meeting) derive(a attempt, i api.Inst, state, prop api.Term) (kernel.Theorem, api.Errno) {
-	return proved(func() kernel.Theorem {
-		p := newProver(m.base, slices.Concat(m.state.all(), m.rule.all()))
-		s := must(instantiate(restricted(i, m.state), p.moved(m.state.theorem)))
-		s = changed(p.normal(s.Prop()), s)
-		d := &derivation{prover: p, used: a.used}
+	return derive.Proved(func() kernel.Theorem {
+		p := derive.New(m.base, slices.Concat(m.state.all(), m.rule.all()))
+		s := derive.Instance(restricted(i, m.state), p.Moved(m.state.theorem))
+		s = derive.Changed(p.Normal(s.Prop()), s)
+		d := &derivation{Prover: p, used: a.used}
 		goal := stripped(state, m.at+1)[m.at]
 		var frees []api.Term
 		for _, x := range m.sub.Params {
-			frees = append(frees, p.fresh(x.Name, types.Apply(i.Types, x.Type)))
+			frees = append(frees, p.Fresh(x.Name, types.Apply(i.Types, x.Type)))
 		}
-		d.params, d.hyps, d.concl = p.open(m.subShape, goal, frees)
+		d.params, d.hyps, d.concl = open(p, m.subShape, goal, frees)
 		d.news = stripped(prop, m.at+len(a.news))[m.at:]
 		if len(a.news) > 0 || a.used >= 0 {
 			for _, h := range d.hyps {
-				d.given = append(d.given, p.assume(h))
+				d.given = append(d.given, p.Assume(h))
 			}
 		}
 		by := kernel.Theorem{}
@@ -152,23 +145,23 @@ func (m *meeting) derive(a attempt, i api.Inst, state, prop api.Term) (kernel.Th
 		} else {
 			by = closing(m.subShape, d.params, d.hyps, a.prove(d))
 		}
-		return p.replaced(s, m.at, by, len(d.news))
+		return replaced(p, s, m.at, by, len(d.news))
 	})
 }
 
 // follows returns that the subgoal follows from the new ones, by the rule. This is proved of any rule that states the same: the hypotheses of the rule itself must stay, also where one of them is an assumption of the proof.
 func (m *meeting) follows(d *derivation, a attempt, i api.Inst) kernel.Theorem {
-	r := must(instantiate(m.forRule(i, d.params), d.moved(m.rule.theorem)))
-	r = changed(d.normal(r.Prop()), r)
-	all := generally(r, d.params...)
+	r := derive.Instance(m.forRule(i, d.params), d.Moved(m.rule.theorem))
+	r = derive.Changed(d.Normal(r.Prop()), r)
+	all := derive.Generally(r, d.params...)
 	for _, p := range m.lifted.premises {
 		d.shapes = append(d.shapes, shape(p))
 	}
 	prop := all.Prop()
-	d.rule = special(d.assume(prop), d.params...)
+	d.rule = derive.Special(d.Assume(prop), d.params...)
 	t := closing(m.subShape, d.params, d.hyps, a.prove(d))
-	t = discharge(discharge(t, d.news...), prop)
-	return elim(t, all)
+	t = derive.Discharge(derive.Discharge(t, d.news...), prop)
+	return derive.Elim(t, all)
 }
 
 // premise returns the premise of a rule with a shape, which is what a new subgoal says of the parameters and the assumptions.
@@ -176,11 +169,11 @@ func (d *derivation) premise(shape []bool, premise, subgoal api.Term) kernel.The
 	for len(shape) > 0 && !shape[len(shape)-1] {
 		shape = shape[:len(shape)-1] // what stands behind the innermost !! is the same in both
 	}
-	params, hyps, _ := d.open(shape, premise, nil)
-	t := special(special(d.assume(subgoal), d.params...), params...)
-	t = elim(t, d.kept()...)
+	params, hyps, _ := open(d.Prover, shape, premise, nil)
+	t := derive.Special(derive.Special(d.Assume(subgoal), d.params...), params...)
+	t = derive.Elim(t, d.kept()...)
 	for _, h := range hyps {
-		t = elim(t, d.assume(h))
+		t = derive.Elim(t, d.Assume(h))
 	}
 	return closing(shape, params, hyps, t)
 }
@@ -195,17 +188,17 @@ func (d *derivation) kept() []kernel.Theorem {
 
 // apply returns the conclusion of the rule, some premises of which were proved, and the others of which are the first new subgoals.
 func (d *derivation) apply(first ...kernel.Theorem) kernel.Theorem {
-	t := elim(d.rule, first...)
+	t := derive.Elim(d.rule, first...)
 	for i, s := range d.shapes[len(first):] {
 		premise, _, _ := implies(t.Prop())
-		t = elim(t, d.premise(s, premise, d.news[i]))
+		t = derive.Elim(t, d.premise(s, premise, d.news[i]))
 	}
 	return t
 }
 
 // fitted returns a theorem that states a proposition, which is its own one but for eta.
 func (d *derivation) fitted(t kernel.Theorem, prop api.Term) kernel.Theorem {
-	return changed(d.etaEqual(t.Prop(), prop), t)
+	return derive.Changed(d.EtaEqual(t.Prop(), prop), t)
 }
 
 func (d *derivation) byRule() kernel.Theorem {
@@ -224,8 +217,8 @@ func (d *derivation) byElimination() kernel.Theorem {
 
 func (d *derivation) byDestruction() kernel.Theorem {
 	c := d.apply(d.solvedFirst())
-	t := special(d.assume(d.news[len(d.news)-1]), d.params...)
-	return elim(elim(t, d.kept()...), c)
+	t := derive.Special(d.Assume(d.news[len(d.news)-1]), d.params...)
+	return derive.Elim(derive.Elim(t, d.kept()...), c)
 }
 
 func (d *derivation) byAssumption() kernel.Theorem {
@@ -249,24 +242,24 @@ func Replace(state kernel.Theorem, at int, by kernel.Theorem, n int) (kernel.The
 	if n < 0 || n > len(premises) {
 		return kernel.Theorem{}, api.ErrRange
 	}
-	return proved(func() kernel.Theorem {
-		p := newProver(base, nil)
-		return p.replaced(p.moved(state), at, p.moved(by), n)
+	return derive.Proved(func() kernel.Theorem {
+		p := derive.New(base, nil)
+		return replaced(p, p.Moved(state), at, p.Moved(by), n)
 	})
 }
 
 // replaced is Replace. It is proved of any theorems that state the same: so their hypotheses stay, and the proof of the state stands but within few nodes, however many steps there are.
-func (p *prover) replaced(state kernel.Theorem, at int, by kernel.Theorem, n int) kernel.Theorem {
+func replaced(p *derive.Prover, state kernel.Theorem, at int, by kernel.Theorem, n int) kernel.Theorem {
 	stated, known := state.Prop(), by.Prop()
 	ahead, news := stripped(stated, at), stripped(known, n)
-	goal := p.assume(known)
+	goal := p.Assume(known)
 	for _, a := range news {
-		goal = elim(goal, p.assume(a))
+		goal = derive.Elim(goal, p.Assume(a))
 	}
-	t := p.assume(stated)
+	t := p.Assume(stated)
 	for _, a := range ahead {
-		t = elim(t, p.assume(a))
+		t = derive.Elim(t, p.Assume(a))
 	}
-	t = discharge(elim(t, goal), slices.Concat(ahead, news)...)
-	return elim(discharge(t, known, stated), by, state)
+	t = derive.Discharge(derive.Elim(t, goal), slices.Concat(ahead, news)...)
+	return derive.Elim(derive.Discharge(t, known, stated), by, state)
 }

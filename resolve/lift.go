@@ -4,6 +4,7 @@ import (
 	"slices"
 
 	"triforium/api"
+	"triforium/derive"
 	"triforium/kernel"
 	"triforium/term"
 	"triforium/types"
@@ -20,7 +21,7 @@ func (m *meeting) liftTheorem() (kernel.Theorem, api.Errno) {
 	if e := m.rightResult(prop); e != api.OK {
 		return kernel.Theorem{}, e
 	}
-	return proved(func() kernel.Theorem { return m.proveLifted(premises) })
+	return derive.Proved(func() kernel.Theorem { return m.proveLifted(premises) })
 }
 
 // rightResult returns the error that the kernel has for a result.
@@ -38,29 +39,29 @@ func (m *meeting) rightResult(prop api.Term) api.Errno {
 
 // proveLifted proves the lifted rule. If its own hypotheses would be in the way, it is proved of any rule that states the same.
 func (m *meeting) proveLifted(premises []api.Term) kernel.Theorem {
-	p := newProver(m.base, slices.Concat(m.state.all(), m.rule.all()))
-	rule := p.moved(m.rule.theorem)
+	p := derive.New(m.base, slices.Concat(m.state.all(), m.rule.all()))
+	rule := p.Moved(m.rule.theorem)
 	if len(m.sub.Params) == 0 && len(m.sub.Hyps) == 0 {
-		return must(instantiate(raising(m.rule, m.by), rule))
+		return derive.Instance(raising(m.rule, m.by), rule)
 	}
 	order := slices.Concat(slices.Repeat([]bool{true}, len(m.sub.Params)), slices.Repeat([]bool{false}, len(m.sub.Hyps)))
-	params, hyps, _ := p.open(order, whole(m.sub), nil)
-	rule = must(instantiate(m.forRule(api.Inst{}, params), rule))
-	d := &derivation{prover: p, params: params, hyps: hyps, used: -1}
+	params, hyps, _ := open(p, order, whole(m.sub), nil)
+	rule = derive.Instance(m.forRule(api.Inst{}, params), rule)
+	d := &derivation{Prover: p, params: params, hyps: hyps, used: -1}
 	for _, h := range hyps {
-		d.given = append(d.given, p.assume(h))
+		d.given = append(d.given, p.Assume(h))
 	}
 	prove := func(t kernel.Theorem) kernel.Theorem {
 		for _, a := range premises {
-			t = elim(t, elim(special(p.assume(a), params...), d.given...))
+			t = derive.Elim(t, derive.Elim(derive.Special(p.Assume(a), params...), d.given...))
 		}
-		return discharge(closing(order, params, hyps, t), premises...)
+		return derive.Discharge(closing(order, params, hyps, t), premises...)
 	}
 	if !m.inTheWay(m.lifted.hyps, slices.Concat(premises, hyps)) {
 		return prove(rule)
 	}
-	all := generally(rule, params...)
-	return elim(discharge(prove(special(p.assume(all.Prop()), params...)), all.Prop()), all)
+	all := derive.Generally(rule, params...)
+	return derive.Elim(derive.Discharge(prove(derive.Special(p.Assume(all.Prop()), params...)), all.Prop()), all)
 }
 
 // inTheWay reports whether hypotheses would be lost, as one of them is assumed in a proof, or are too many to be there with all that is assumed.

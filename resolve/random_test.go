@@ -8,6 +8,7 @@ import (
 
 	"triforium/api"
 	"triforium/checker"
+	"triforium/derive"
 	"triforium/kernel"
 	"triforium/term"
 	"triforium/types"
@@ -104,7 +105,7 @@ func (g *gen) theorem(oracle string, prop api.Term, hyps int) kernel.Theorem {
 		if g.Intn(4) > 0 {
 			h = g.of(g.pick("A", "$A", "p $n", "r $n $m", "All p", "A ==> B", "!!x:N. p x"))
 		}
-		t = must(kernel.ImpElim(must(kernel.ImpIntro(h, t)), must(kernel.Assume(little(), h))))
+		t = derive.Must(kernel.ImpElim(derive.Must(kernel.ImpIntro(h, t)), derive.Must(kernel.Assume(little(), h))))
 	}
 	return t
 }

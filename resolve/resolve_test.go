@@ -7,6 +7,7 @@ import (
 	"testing"
 
 	"triforium/api"
+	"triforium/derive"
 	"triforium/kernel"
 	"triforium/term"
 	"triforium/theory"
@@ -147,7 +148,7 @@ func TestP121Hypotheses(t *testing.T) {
 			t.Error(x.rule, "|", x.state, ":", got)
 		}
 	}
-	l, _, _ := First(must(kernel.Oracle(little(), "orc2", of(kinds, "A ==> B"))), 0, by("B ==> C"), Rule, 1, 1)
+	l, _, _ := First(derive.Must(kernel.Oracle(little(), "orc2", of(kinds, "A ==> B"))), 0, by("B ==> C"), Rule, 1, 1)
 	if len(l) != 1 || !slices.Equal(l[0].Oracles(), []string{"orc", "orc2"}) {
 		t.Error("oracles")
 	}
@@ -176,7 +177,7 @@ func TestP121Errors(t *testing.T) {
 	thy := little()
 	more, _ := theory.Extend(thy, "More", api.Theory{Consts: []api.ConstDecl{{Name: "c1", Type: types.Prop()}}})
 	other, _ := theory.Extend(thy, "Other", api.Theory{Consts: []api.ConstDecl{{Name: "c2", Type: types.Prop()}}})
-	in := func(thy api.Theory, s string) kernel.Theorem { return must(kernel.Transfer(thy, by(s))) }
+	in := func(thy api.Theory, s string) kernel.Theorem { return derive.Must(kernel.Transfer(thy, by(s))) }
 	none, rule, state := kernel.Theorem{}, by("p ?x ==> q ?x"), by("q a ==> B")
 	param := by("(!!v:N. q v) ==> B")
 	with := func(kinds, s string) kernel.Theorem { return stated(kinds, s) }
@@ -325,7 +326,7 @@ func TestP121RaisedLift(t *testing.T) {
 	for i, x := range []struct {
 		rule, state kernel.Theorem
 		e           api.Errno
-	}{{high, by("A ==> B"), api.OK}, {high, by("p ?x ==> B"), api.ErrRange}, {by("A"), must(kernel.Instantiate(api.Inst{Terms: []api.TermBind{{Name: "x", To: of("?x.1000000: N", "?x.1000000")}}}, by("p ?x ==> B"))), api.OK}, {by("p ?x"), stated("?x.1000000: N", "p ?x.1000000 ==> B"), api.ErrRange}} {
+	}{{high, by("A ==> B"), api.OK}, {high, by("p ?x ==> B"), api.ErrRange}, {by("A"), derive.Must(kernel.Instantiate(api.Inst{Terms: []api.TermBind{{Name: "x", To: of("?x.1000000: N", "?x.1000000")}}}, by("p ?x ==> B"))), api.OK}, {by("p ?x"), stated("?x.1000000: N", "p ?x.1000000 ==> B"), api.ErrRange}} {
 		_, e := Raised(x.rule, x.state)
 		_, f := Lift(x.rule, 0, x.state)
 		l, _, h := First(x.rule, 0, x.state, Rule, 1, 1)
@@ -402,7 +403,7 @@ func TestP121LiftLimits(t *testing.T) {
 			goal = term.All(api.Term{Op: api.Free, Name: "v", Type: typ("N")}, goal)
 		}
 		state.Kids[0].Kids[1] = goal
-		l, e := Lift(by("p ("+tower(x.nest)+")"), 0, must(kernel.Oracle(little(), "orc", state)))
+		l, e := Lift(by("p ("+tower(x.nest)+")"), 0, derive.Must(kernel.Oracle(little(), "orc", state)))
 		if e != x.e || l.Is() != (e == api.OK) {
 			_, d := term.Size(l.Prop())
 			t.Error(x.nest, x.params, e, d)
@@ -421,7 +422,7 @@ func TestP121LiftLimits(t *testing.T) {
 	rule := by("A ==> B")
 	for i := range 500 {
 		h := term.Apps(of(kinds, "p"), []api.Term{{Op: api.Free, Name: fmt.Sprint("n", i), Type: typ("N")}})
-		rule = must(kernel.ImpElim(must(kernel.ImpIntro(h, rule)), must(kernel.Assume(little(), h))))
+		rule = derive.Must(kernel.ImpElim(derive.Must(kernel.ImpIntro(h, rule)), derive.Must(kernel.Assume(little(), h))))
 	}
 	l, e := Lift(rule, 0, params)
 	if e != api.OK || len(l.Hyps()) != 500 || !taken(l) {
@@ -485,7 +486,7 @@ func TestP121ResolutionLimits(t *testing.T) {
 		return out
 	}
 	for n, want := range map[int]int{195: 1, 196: 0} {
-		state := must(kernel.Oracle(little(), "orc", term.Imp(of(kinds, "C"), flatImps(n, "A"))))
+		state := derive.Must(kernel.Oracle(little(), "orc", term.Imp(of(kinds, "C"), flatImps(n, "A"))))
 		rule := by("A ==> A ==> (A ==> B) ==> C")
 		if got := count(rule, state, Rule); got != want {
 			t.Error("imps", n, got)
@@ -511,9 +512,9 @@ func TestP121ResolutionLimits(t *testing.T) {
 	}
 	for n, want := range map[int]int{90: 1, 91: 0} {
 		vars := balanced(n, func(i int) api.Term { return api.Term{Op: api.Var, Name: "v", Num: i, Type: types.Prop()} })
-		state := must(kernel.Oracle(little(), "orc", term.Imp(of(kinds, "C"), vars)))
+		state := derive.Must(kernel.Oracle(little(), "orc", term.Imp(of(kinds, "C"), vars)))
 		ten := balanced(10, func(i int) api.Term { return api.Term{Op: api.Var, Name: "v", Num: i, Type: types.Prop()} })
-		rule := must(kernel.Oracle(little(), "orc", term.Imp(ten, of(kinds, "C"))))
+		rule := derive.Must(kernel.Oracle(little(), "orc", term.Imp(ten, of(kinds, "C"))))
 		if got := count(rule, state, Rule); got != want {
 			t.Error("Vars", n, got)
 		}
@@ -522,13 +523,13 @@ func TestP121ResolutionLimits(t *testing.T) {
 			x := api.Term{Op: api.Free, Name: fmt.Sprint("v", i), Type: k}
 			return term.Apps(api.Term{Op: api.Const, Name: "e", Type: types.Fun(k, types.Fun(k, types.Prop()))}, []api.Term{x, x})
 		}
-		state = must(kernel.Oracle(little(), "orc", term.Imp(of(kinds, "C"), balanced(n, leaf))))
+		state = derive.Must(kernel.Oracle(little(), "orc", term.Imp(of(kinds, "C"), balanced(n, leaf))))
 		leaf10 := func(i int) api.Term {
 			x := leaf(i)
 			x.Kids[0].Kids[1].Name, x.Kids[1].Name = fmt.Sprint("w", i), fmt.Sprint("w", i)
 			return x
 		}
-		rule = must(kernel.Oracle(little(), "orc", term.Imp(balanced(10, leaf10), of(kinds, "C"))))
+		rule = derive.Must(kernel.Oracle(little(), "orc", term.Imp(balanced(10, leaf10), of(kinds, "C"))))
 		if got := count(rule, state, Rule); got != want {
 			t.Error("TVars", n, got)
 		}
@@ -536,19 +537,19 @@ func TestP121ResolutionLimits(t *testing.T) {
 	// 2000 nodes: of the state, and of the resolvent
 	leaf := func(int) api.Term { return of(kinds, "A") }
 	for n, want := range map[int]int{499: 1, 500: 0} { // 4 n - 3 + 4 nodes
-		state := must(kernel.Oracle(little(), "orc", term.Imp(of(kinds, "C"), balanced(n, leaf))))
+		state := derive.Must(kernel.Oracle(little(), "orc", term.Imp(of(kinds, "C"), balanced(n, leaf))))
 		if got := count(by("C"), state, Rule); got != want {
 			t.Error("nodes", n, got)
 		}
 		state = by("C ==> A")
-		rule := must(kernel.Oracle(little(), "orc", term.Imp(balanced(n, leaf), of(kinds, "C"))))
+		rule := derive.Must(kernel.Oracle(little(), "orc", term.Imp(balanced(n, leaf), of(kinds, "C"))))
 		if got := count(rule, state, Rule); got != want {
 			t.Error("nodes of a rule", n, got)
 		}
 	}
 	for n, want := range map[int]int{249: 1, 250: 0} { // of the resolvent: 4 n - 3, 997, and those of two ==>
-		state := must(kernel.Oracle(little(), "orc", imply([]api.Term{of(kinds, "C"), balanced(250, leaf)}, of(kinds, "A"))))
-		rule := must(kernel.Oracle(little(), "orc", term.Imp(balanced(n, leaf), of(kinds, "C"))))
+		state := derive.Must(kernel.Oracle(little(), "orc", imply([]api.Term{of(kinds, "C"), balanced(250, leaf)}, of(kinds, "A"))))
+		rule := derive.Must(kernel.Oracle(little(), "orc", term.Imp(balanced(n, leaf), of(kinds, "C"))))
 		if got := count(rule, state, Rule); got != want {
 			t.Error("nodes of the resolvent", n, got)
 		}
@@ -569,7 +570,7 @@ func TestP121ResolutionLimits(t *testing.T) {
 	}
 	forget := func(t api.Term) api.Term { return app(fun("k", func(api.Term) api.Term { return of(kinds, "A") }), t) }
 	of2 := func(t api.Term) kernel.Theorem {
-		return must(kernel.Oracle(little(), "orc", term.Imp(of(kinds, "C"), t)))
+		return derive.Must(kernel.Oracle(little(), "orc", term.Imp(of(kinds, "C"), t)))
 	}
 	for n, want := range map[int]int{112: 1, 113: 0} { // 77 n + 3 (n - 1) + 7 nodes
 		t1 := fun("d", func(d api.Term) api.Term { return forget(balanced(n, func(int) api.Term { return d })) })

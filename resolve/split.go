@@ -4,6 +4,7 @@ import (
 	"slices"
 
 	"triforium/api"
+	"triforium/derive"
 	"triforium/term"
 	"triforium/types"
 )
@@ -125,20 +126,15 @@ func general(params []api.Term, t api.Term) api.Term {
 	prop := types.Prop()
 	for _, p := range slices.Backward(params) {
 		all := api.Term{Op: api.Const, Name: "all", Type: types.Fun(types.Fun(p.Type, prop), prop)}
-		t = api.Term{Op: api.App, Kids: []api.Term{all, abstraction(p, t)}}
+		t = api.Term{Op: api.App, Kids: []api.Term{all, derive.Abstraction(p, t)}}
 	}
 	return t
-}
-
-// abstraction returns the abstraction with the name and the type of a parameter.
-func abstraction(p, body api.Term) api.Term {
-	return api.Term{Op: api.Abs, Name: p.Name, Type: p.Type, Kids: []api.Term{body}}
 }
 
 // abstracted returns a term as a function of the parameters that are bound variables in it.
 func abstracted(params []api.Term, t api.Term) api.Term {
 	for _, p := range slices.Backward(params) {
-		t = abstraction(p, t)
+		t = derive.Abstraction(p, t)
 	}
 	return t
 }

@@ -6,6 +6,7 @@ import (
 	"strings"
 
 	"triforium/api"
+	"triforium/derive"
 	"triforium/kernel"
 	"triforium/term"
 	"triforium/theory"
@@ -197,12 +198,12 @@ func stated(kinds, s string) kernel.Theorem {
 	if !ok {
 		hyps, prop = "", s
 	}
-	t := must(kernel.Oracle(little(), "orc", of(kinds, strings.TrimSpace(prop))))
+	t := derive.Must(kernel.Oracle(little(), "orc", of(kinds, strings.TrimSpace(prop))))
 	for _, h := range strings.Split(hyps, ";") {
 		if h = strings.TrimSpace(h); h != "" {
 			a := of(kinds, h)
-			t = must(kernel.ImpIntro(a, t))
-			t = must(kernel.ImpElim(t, must(kernel.Assume(little(), a))))
+			t = derive.Must(kernel.ImpIntro(a, t))
+			t = derive.Must(kernel.ImpElim(t, derive.Must(kernel.Assume(little(), a))))
 		}
 	}
 	return t

@@ -9,6 +9,7 @@ import (
 
 	"triforium/api"
 	"triforium/checker"
+	"triforium/derive"
 	"triforium/kernel"
 	"triforium/term"
 )
@@ -43,10 +44,10 @@ func equation(a, b, hyp string) kernel.Theorem {
 	if e != api.OK {
 		panic(e)
 	}
-	th := must(kernel.Oracle(little(), "orc", t))
+	th := derive.Must(kernel.Oracle(little(), "orc", t))
 	if hyp != "" {
 		h := of(kinds, hyp)
-		th = must(kernel.ImpElim(must(kernel.ImpIntro(h, th)), must(kernel.Assume(little(), h))))
+		th = derive.Must(kernel.ImpElim(derive.Must(kernel.ImpIntro(h, th)), derive.Must(kernel.Assume(little(), h))))
 	}
 	return th
 }
@@ -95,10 +96,10 @@ func (g gen) state() kernel.Theorem {
 		}
 		l = append(l, of(kinds, s))
 	}
-	t := must(kernel.Oracle(little(), "orc2", imply(l, term.Protect(of(kinds, g.prop(nil, 1))))))
+	t := derive.Must(kernel.Oracle(little(), "orc2", imply(l, term.Protect(of(kinds, g.prop(nil, 1))))))
 	for range g.Intn(3) {
 		h := of(kinds, g.prop(nil, 1))
-		t = must(kernel.ImpElim(must(kernel.ImpIntro(h, t)), must(kernel.Assume(little(), h))))
+		t = derive.Must(kernel.ImpElim(derive.Must(kernel.ImpIntro(h, t)), derive.Must(kernel.Assume(little(), h))))
 	}
 	return t
 }

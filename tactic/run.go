@@ -4,6 +4,7 @@ import (
 	"iter"
 
 	"triforium/api"
+	"triforium/derive"
 	"triforium/kernel"
 	"triforium/resolve"
 	"triforium/term"
@@ -142,7 +143,7 @@ func (r *runner) replaced(e Expr, p place, n int, prove func(a api.Term) kernel.
 	return r.basic(e, p, func(at int) iter.Seq[kernel.Theorem] {
 		return one(func() (kernel.Theorem, api.Errno) {
 			goals, _ := term.Strip(p.state.Prop())
-			by, err := proved(func() kernel.Theorem { return prove(goals[at]) })
+			by, err := derive.Proved(func() kernel.Theorem { return prove(goals[at]) })
 			if err != api.OK {
 				return kernel.Theorem{}, err
 			}
@@ -168,9 +169,9 @@ func (r *runner) cut(e Expr, p place) places {
 	return r.replaced(e, p, 2, func(a api.Term) kernel.Theorem {
 		// from Prop and Prop ==> A
 		both := term.Imp(e.Prop, a)
-		fact := must(r.base.Assume(e.Prop))
-		t := must(kernel.ImpElim(must(r.base.Assume(both)), fact))
-		return must(kernel.ImpIntro(e.Prop, must(kernel.ImpIntro(both, t))))
+		fact := derive.Must(r.base.Assume(e.Prop))
+		t := derive.Must(kernel.ImpElim(derive.Must(r.base.Assume(both)), fact))
+		return derive.Must(kernel.ImpIntro(e.Prop, derive.Must(kernel.ImpIntro(both, t))))
 	})
 }
 

@@ -4,6 +4,7 @@ import (
 	"slices"
 
 	"triforium/api"
+	"triforium/derive"
 	"triforium/kernel"
 	"triforium/term"
 	"triforium/types"
@@ -11,7 +12,7 @@ import (
 
 // forward returns B ==> A of an equation A == B; backward A ==> B of it. They have the hypotheses of the equation, also if one of these is A, or B.
 func forward(eq kernel.Theorem, a, b api.Term) kernel.Theorem {
-	return converse(eq, b, func(eq kernel.Theorem) kernel.Theorem { return must(kernel.Symmetric(eq)) })
+	return converse(eq, b, func(eq kernel.Theorem) kernel.Theorem { return derive.Must(kernel.Symmetric(eq)) })
 }
 
 func backward(eq kernel.Theorem, a, b api.Term) kernel.Theorem {
@@ -21,9 +22,9 @@ func backward(eq kernel.Theorem, a, b api.Term) kernel.Theorem {
 // converse returns that a side of an equation implies the other one. This is proved of any equation that states the same.
 func converse(eq kernel.Theorem, side api.Term, turn func(kernel.Theorem) kernel.Theorem) kernel.Theorem {
 	prop, base := eq.Prop(), eq.Base()
-	t := must(kernel.EqElim(turn(must(base.Assume(prop))), must(base.Assume(side))))
-	t = must(kernel.ImpIntro(prop, must(kernel.ImpIntro(side, t))))
-	return must(kernel.ImpElim(t, eq))
+	t := derive.Must(kernel.EqElim(turn(derive.Must(base.Assume(prop))), derive.Must(base.Assume(side))))
+	t = derive.Must(kernel.ImpIntro(prop, derive.Must(kernel.ImpIntro(side, t))))
+	return derive.Must(kernel.ImpElim(t, eq))
 }
 
 // unfolding returns B ==> A, where B is A with the right side of an equation in the place of its left side, which is a Const or a Free.
@@ -36,13 +37,13 @@ func (r *runner) unfolding(rule kernel.Theorem, a api.Term) kernel.Theorem {
 	if !found {
 		panic(api.ErrFail)
 	}
-	rule = must(r.base.Transfer(rule))
+	rule = derive.Must(r.base.Transfer(rule))
 	// (\x. body) c == (\x. body) r, and both sides are what they become
 	f := api.Term{Op: api.Abs, Name: "x", Type: c.Type, Kids: []api.Term{body}}
-	eq := must(kernel.Combination(must(r.base.Reflexive(f)), rule))
-	before := must(kernel.Symmetric(must(r.base.Beta(apply(f, c)))))
-	behind := must(r.base.Beta(apply(f, to)))
-	eq = must(kernel.Transitive(before, must(kernel.Transitive(eq, behind))))
+	eq := derive.Must(kernel.Combination(derive.Must(r.base.Reflexive(f)), rule))
+	before := derive.Must(kernel.Symmetric(derive.Must(r.base.Beta(apply(f, c)))))
+	behind := derive.Must(r.base.Beta(apply(f, to)))
+	eq = derive.Must(kernel.Transitive(before, derive.Must(kernel.Transitive(eq, behind))))
 	return forward(eq, a, term.Put(body, to))
 }
 
@@ -73,19 +74,19 @@ func rotated(state kernel.Theorem, at, last int) (kernel.Theorem, api.Errno) {
 	if at == last {
 		return state, api.OK
 	}
-	return proved(func() kernel.Theorem {
+	return derive.Proved(func() kernel.Theorem {
 		prop, base := state.Prop(), state.Base()
 		goals, _ := term.Strip(prop)
 		goals = goals[:last+1]
 		// of any state that states the same: so hypotheses stay that are subgoals, too
-		t := must(base.Assume(prop))
+		t := derive.Must(base.Assume(prop))
 		for _, a := range goals {
-			t = must(kernel.ImpElim(t, must(base.Assume(a))))
+			t = derive.Must(kernel.ImpElim(t, derive.Must(base.Assume(a))))
 		}
 		order := slices.Concat(goals[:at], goals[at+1:], goals[at:at+1])
 		for _, a := range slices.Backward(order) {
-			t = must(kernel.ImpIntro(a, t))
+			t = derive.Must(kernel.ImpIntro(a, t))
 		}
-		return must(kernel.ImpElim(must(kernel.ImpIntro(prop, t)), state))
+		return derive.Must(kernel.ImpElim(derive.Must(kernel.ImpIntro(prop, t)), state))
 	})
 }

@@ -7,6 +7,7 @@ import (
 	"testing"
 
 	"triforium/api"
+	"triforium/derive"
 	"triforium/kernel"
 	"triforium/sort"
 	"triforium/term"
@@ -183,8 +184,8 @@ func TestP131Basic(t *testing.T) {
 		t.Fatal(err)
 	}
 	eq, _ := term.Eq(of(k, "nil"), api.Term{Op: api.Const, Name: "m", Type: typ("LN")})
-	th := must(kernel.Oracle(thy, "orc", eq))
-	goal := must(kernel.Oracle(thy, "orc", term.Imp(term.Imp(of(k, "e nil nil"), of(k, "e' nil' nil'")), term.Protect(of(k, "C")))))
+	th := derive.Must(kernel.Oracle(thy, "orc", eq))
+	goal := derive.Must(kernel.Oracle(thy, "orc", term.Imp(term.Imp(of(k, "e nil nil"), of(k, "e' nil' nil'")), term.Protect(of(k, "C")))))
 	l, _, err := Run(thy, []kernel.Theorem{th}, unfold(0), goal, 5, 5)
 	if err != api.OK || len(l) != 1 || theoremText(l[0]) != "(e m m ==> e nil nil) ==> protect C" || !taken(l[0]) {
 		t.Error(err, len(l))
@@ -345,7 +346,7 @@ func TestP131Limits(t *testing.T) {
 		s := state("A", "B")
 		for i := range n {
 			h := term.Apps(of(kinds, "p"), []api.Term{{Op: api.Free, Name: fmt.Sprint("n", i), Type: typ("N")}})
-			s = must(kernel.ImpElim(must(kernel.ImpIntro(h, s)), must(kernel.Assume(thy, h))))
+			s = derive.Must(kernel.ImpElim(derive.Must(kernel.ImpIntro(h, s)), derive.Must(kernel.Assume(thy, h))))
 		}
 		l, _, e := Run(thy, nil, Expr{Kind: Rotate}, s, 5, 5)
 		if e != api.OK || len(l) != want {
@@ -359,8 +360,8 @@ func TestP131Errors(t *testing.T) {
 	bad := thy
 	bad.Name = ""
 	more, _ := theory.Extend(thy, "More", api.Theory{Consts: []api.ConstDecl{{Name: "c1", Type: types.Prop()}}})
-	moved := must(kernel.Transfer(more, by("A")))
-	goal, movedGoal := state("A"), must(kernel.Transfer(more, state("A")))
+	moved := derive.Must(kernel.Transfer(more, by("A")))
+	goal, movedGoal := state("A"), derive.Must(kernel.Transfer(more, state("A")))
 	rules := []kernel.Theorem{by("A")}
 	none := kernel.Theorem{}
 	sorts := thy

@@ -1,0 +1,96 @@
+package derive
+
+import (
+	"triforium/api"
+	"triforium/kernel"
+	"triforium/pattern"
+	"triforium/term"
+	"triforium/types"
+)
+
+// Rule is a theorem with its schematic variables.
+type Rule struct {
+	Theorem kernel.Theorem
+	All     []api.Term // its hypotheses and its proposition
+	Vars    []api.Term // different ones
+	Types   []api.Type // TVars, different ones
+}
+
+// NewRule returns a theorem with its variables.
+func NewRule(t kernel.Theorem) Rule {
+	r := Rule{Theorem: t, All: append(t.Hyps(), t.Prop())}
+	whole := api.Term{Kids: r.All}
+	r.Vars = term.Vars(whole)
+	for _, v := range term.TypeVariables(whole) {
+		if v.Op == api.TVar {
+			r.Types = append(r.Types, v)
+		}
+	}
+	return r
+}
+
+// Raised returns the instance of the rule by an instantiation of its variables, raised by a number.
+func (r Rule) Raised(by int, i api.Inst) kernel.Theorem {
+	var out api.Inst
+	known, x := types.NewInstance(i.Types), term.NewInstance(i)
+	for _, v := range r.Types {
+		if to := known.Apply(types.Raise(v, by)); !types.Equal(to, v) {
+			out.Types = append(out.Types, api.TypeBind{Name: v.Name, Index: v.Index, To: to})
+		}
+	}
+	now := types.NewInstance(out.Types)
+	for _, v := range r.Vars {
+		to := x.Apply(term.Raise(v, by))
+		if to.Op != api.Var || to.Name != v.Name || to.Num != v.Num || !now.Gives(v.Type, to.Type) {
+			out.Terms = append(out.Terms, api.TermBind{Name: v.Name, Index: v.Num, To: to})
+		}
+	}
+	return Instance(out, r.Theorem)
+}
+
+// Alike returns that two terms are equal whose beta-normal forms are so but for eta.
+func (p *Prover) Alike(a, b api.Term) Equation {
+	if term.Equal(a, b) {
+		return Same(a)
+	}
+	x, y := p.Normal(a), p.Normal(b)
+	e := Joined(x, p.EtaEqual(x.Right, y.Right))
+	return Joined(e, Turned(y))
+}
+
+// normFuel is how many steps lead to a normal form at most.
+const normFuel = 1000
+
+// matching finds what a rule has for its variables.
+type matching struct {
+	sign term.Signature
+	inst api.Inst
+}
+
+// match makes a part of a rule equal to what it states here, if it is a pattern behind what is known; it reports whether something was found.
+func (m *matching) match(part, t api.Term) bool {
+	part, e := term.Norm(term.Apply(m.inst, part), normFuel)
+	if e != api.OK || term.Equal(part, t) {
+		return false
+	}
+	i, e := pattern.MatchIn(m.sign, part, t)
+	if e != api.OK || len(i.Types)+len(i.Terms) == 0 {
+		return false
+	}
+	i, e = pattern.Compose(m.inst, i)
+	m.inst = i
+	return e == api.OK
+}
+
+// Use returns what a rule says of some theorems, which are its first premises, in beta-normal form: of its variables those are known that are bound, the others are what the theorems tell, and the goal, if there is one. None of these has schematic variables of the rule.
+func (p *Prover) Use(rule kernel.Theorem, known api.Inst, goal *api.Term, from ...kernel.Theorem) kernel.Theorem {
+	premises, concl := term.Strip(rule.Prop())
+	m := &matching{p.Base.Sign(), known}
+	for found := true; found; {
+		found = goal != nil && m.match(concl, *goal)
+		for i, t := range from {
+			found = m.match(premises[i], t.Prop()) || found
+		}
+	}
+	return Elim(p.Normalized(Instance(m.inst, rule)), from...)
+}
