@@ -3,6 +3,7 @@ package conv
 import (
 	"math/rand"
 	"slices"
+	"sync"
 	"testing"
 
 	"triforium/api"
@@ -13,10 +14,10 @@ import (
 	"triforium/theory"
 )
 
-func small() api.Theory {
+var small = sync.OnceValue(func() api.Theory {
 	return testlang.Theory(theory.Pure(), "t", "a : t; b : t; c : t; f : t => t; g : t => t => t; h : (t => t) => t; p : t => prop",
 		"f_x : f ?x == ?x; a_b : a == b; g_swap : g ?x ?y == g ?y ?x; h_const : h (%x. ?y) == ?y; g_dup : f ?x == g ?x ?x; h_eta : h ?F == ?F a; open : f ?x == g ?x ?z; f_f : f (f ?x) == f ?x; g_ff : g (f ?x) (f ?y) == f (g ?x ?y); up : b == f b")
-}
+})
 
 func rules(names string) []kernel.Theorem { return testlang.Axioms(small(), names) }
 
@@ -207,8 +208,8 @@ func TestP201Convert(t *testing.T) {
 	if _, e := Convert(func(api.Term) (kernel.Theorem, api.Errno) { return rules("a_b")[0], api.OK }, th); e != api.ErrFail {
 		t.Error("of another term", e)
 	}
-	small, _ := Make(hol.HOL(), nil, expr(All), 9)
-	if _, e := Convert(small, th); e == api.OK {
+	smaller, _ := Make(hol.HOL(), nil, expr(All), 9)
+	if _, e := Convert(smaller, th); e == api.OK {
 		t.Error("of another theory")
 	}
 }
