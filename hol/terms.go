@@ -122,3 +122,26 @@ func Number(t api.Term) (int, bool) {
 	}
 	return n, true
 }
+
+// Connective takes a formula apart: the name of the connective at its head (True, False, Not, And, Or, Implies, or Equal of two formulas), and its arguments; no name, if it is another term. The parts share memory with the formula.
+func Connective(t api.Term) (string, []api.Term) {
+	var l []api.Term
+	f := t
+	for f.Op == api.App && len(f.Kids) == 2 && len(l) < 2 {
+		l = append([]api.Term{f.Kids[1]}, l...)
+		f = f.Kids[0]
+	}
+	args := -1
+	switch f.Name {
+	case "True", "False":
+		args = 0
+	case "Not":
+		args = 1
+	case "And", "Or", "Implies", "Equal":
+		args = 2
+	}
+	if len(l) != args || !term.Equal(f, constant(f.Name, BoolType())) {
+		return "", nil
+	}
+	return f.Name, l
+}
