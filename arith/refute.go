@@ -71,10 +71,8 @@ func eliminated(rows []Row, few bool) (l []Line, ok, all bool, err api.Errno) {
 		case nil:
 		case contradiction:
 			l, ok, all, err = x.certificate(r.line), true, true, api.OK
-		case tooMany:
+		default: // tooMany
 			l, ok, all, err = nil, false, false, api.ErrFuel
-		default:
-			panic(r)
 		}
 	}()
 	x.start(rows)

@@ -67,14 +67,17 @@ type matching struct {
 	inst api.Inst
 }
 
-// match makes a part of a rule equal to what it states here, if it is a pattern behind what is known; it reports whether something was found.
+// match makes a part of a rule equal to what it states here, if it is a pattern behind what is known; it reports whether it was one.
 func (m *matching) match(part, t api.Term) bool {
 	part, e := term.Norm(term.Apply(m.inst, part), normFuel)
-	if e != api.OK || term.Equal(part, t) {
+	if e != api.OK {
 		return false
 	}
+	if term.Equal(part, t) {
+		return true
+	}
 	i, e := pattern.MatchIn(m.sign, part, t)
-	if e != api.OK || len(i.Types)+len(i.Terms) == 0 {
+	if e != api.OK {
 		return false
 	}
 	i, e = pattern.Compose(m.inst, i)
@@ -82,15 +85,32 @@ func (m *matching) match(part, t api.Term) bool {
 	return e == api.OK
 }
 
+// further matches the parts that are not done yet; it reports whether some are now, and others are not.
+func (m *matching) further(parts, stated []api.Term, done []bool) bool {
+	some, all := false, true
+	for i := range parts {
+		if done[i] {
+			continue
+		}
+		done[i] = m.match(parts[i], stated[i])
+		some, all = some || done[i], all && done[i]
+	}
+	return some && !all
+}
+
 // Use returns what a rule says of some theorems, which are its first premises, in beta-normal form: of its variables those are known that are bound, the others are what the theorems tell, and the goal, if there is one. None of these has schematic variables of the rule.
 func (p *Prover) Use(rule kernel.Theorem, known api.Inst, goal *api.Term, from ...kernel.Theorem) kernel.Theorem {
-	premises, concl := term.Strip(rule.Prop())
+	parts, concl := term.Strip(rule.Prop())
+	var stated []api.Term
+	for _, t := range from {
+		stated = append(stated, t.Prop())
+	}
+	parts = parts[:len(from)]
+	if goal != nil {
+		parts, stated = append([]api.Term{concl}, parts...), append([]api.Term{*goal}, stated...)
+	}
 	m := &matching{p.Base.Sign(), known}
-	for found := true; found; {
-		found = goal != nil && m.match(concl, *goal)
-		for i, t := range from {
-			found = m.match(premises[i], t.Prop()) || found
-		}
+	for done := make([]bool, len(parts)); m.further(parts, stated, done); {
 	}
 	return Elim(p.Normalized(Instance(m.inst, rule)), from...)
 }

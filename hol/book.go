@@ -5,6 +5,7 @@ import (
 	"triforium/derive"
 	"triforium/kernel"
 	"triforium/term"
+	"triforium/theory"
 )
 
 // Book has the axioms and derived rules of HOL and Nat as theorems of one theory, each of which it proves once. Who needs many of them takes one.
@@ -103,7 +104,4 @@ func (b *Book) Meta(t kernel.Theorem) kernel.Theorem {
 }
 
 // Has reports whether HOL is within a theory.
-func Has(base kernel.Base) bool {
-	h, e := kernel.On(HOL())
-	return e == api.OK && h.Within(base)
-}
+func Has(base kernel.Base) bool { return theory.Within(HOL(), base.Theory()) }

@@ -165,7 +165,10 @@ func TestP192Derived(t *testing.T) {
 			}
 		}
 	}
-	for _, name := range []string{"", "none", "conjE ", "protect_def", "HOL"} {
+	if th, e := Rule("protect_def"); e != api.OK || th.Theory().Name != "HOL" {
+		t.Error("the axiom of Pure", e)
+	}
+	for _, name := range []string{"", "none", "conjE ", "HOL"} {
 		if th, e := Rule(name); e != api.ErrMissing || th.Is() {
 			t.Error(name, e)
 		}

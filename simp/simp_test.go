@@ -561,3 +561,36 @@ func TestP211GoalErrors(t *testing.T) {
 		t.Error(e)
 	}
 }
+
+// Each case has so many conditionals fewer as are equal to the first one.
+func TestP216Fewer(t *testing.T) {
+	thy := small()
+	ifs := func(x api.Term, like *api.Term) int {
+		n := 0
+		for k := range term.Nodes(x) {
+			if isChoice(k) && (like == nil || term.Equal(k, *like)) {
+				n++
+			}
+		}
+		return n
+	}
+	for _, s := range []string{"p (if A then c else d)", "f (if A then c else d) (if A then c else d) = (if B then c else d)", "(ALL x. p (if A then x else d)) & q (if p (if B then c else d) then c else (if B then c else d))"} {
+		p := read1(s)
+		th, e := Split(thy, p)
+		if e != api.OK {
+			t.Fatal(s, e)
+		}
+		first, _ := firstChoice(p)
+		_, l, _ := term.IsEq(th.Prop())
+		_, both := hol.Connective(l)
+		_, one := hol.Connective(both[0])
+		_, two := hol.Connective(both[1])
+		_, parts := term.Spine(first)
+		inside := []int{ifs(parts[1], nil), ifs(parts[2], nil)}
+		for i, x := range []api.Term{one[1], two[1]} {
+			if got, want := ifs(x, nil), ifs(p, nil)-ifs(p, &first)*(1+ifs(parts[0], nil)+inside[1-i]); got != want {
+				t.Error(s, i, got, want)
+			}
+		}
+	}
+}

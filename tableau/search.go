@@ -98,10 +98,7 @@ func within(t Tree, nodes int) (Tree, api.Errno) {
 // searched looks for a tableau with at most so many nodes of the kind Gamma on each branch; if it finds none, it reports whether there may be one with more.
 func searched(base kernel.Base, l []api.Term, gammas int, work *int, simple bool) (t Tree, ok, cut bool) {
 	defer func() {
-		if r := recover(); r != nil {
-			if _, done := r.(outOfWork); !done {
-				panic(r)
-			}
+		if r := recover(); r != nil { // outOfWork
 			t, ok, cut = Tree{}, false, true
 		}
 	}()
@@ -179,11 +176,16 @@ func (b branch) has(f api.Term) bool {
 	return slices.ContainsFunc(b.forms, func(e entry) bool { return term.Equal(e.formula, f) })
 }
 
-// close closes a branch, the last formulas of which are new.
-func (s *searcher) close(b branch, last int) (closed, bool) {
+// spend counts work, or leaves, if all is done.
+func (s *searcher) spend() {
 	if *s.work--; *s.work < 0 {
 		panic(outOfWork{})
 	}
+}
+
+// close closes a branch, the last formulas of which are new.
+func (s *searcher) close(b branch, last int) (closed, bool) {
+	s.spend()
 	if c, ok := contradiction(b, last); ok {
 		return c, true
 	}
@@ -221,6 +223,7 @@ func (s *searcher) fresh(t api.Type) api.Term {
 
 // byInstance closes a branch by the instance of a formula by a term.
 func (s *searcher) byInstance(b branch, e entry, a api.Term) (closed, bool) {
+	s.spend()
 	i, err := term.Norm(term.Put(e.parts[0].Kids[0], a), normFuel)
 	if err != api.OK {
 		return s.without(b, e)
