@@ -9,6 +9,7 @@ import (
 	"triforium/api"
 	"triforium/hol"
 	"triforium/kernel"
+	"triforium/resolve"
 	"triforium/term"
 	"triforium/testlang"
 	"triforium/theory"
@@ -385,5 +386,34 @@ func TestP1Garbage(t *testing.T) {
 		if _, err := Run(thy, rules("f_x"), e, x, 9); err == api.OK {
 			t.Error("no error", e, x)
 		}
+	}
+}
+
+// 2 + 2 is 4.
+func TestP201Numbers(t *testing.T) {
+	reflect, e := hol.Rule("eq_reflection")
+	if e != api.OK {
+		t.Fatal(e)
+	}
+	var l []kernel.Theorem
+	for _, name := range []string{"plus_Suc", "plus_Zero"} {
+		th, e := hol.Rule(name)
+		if e != api.OK {
+			t.Fatal(e)
+		}
+		th, e = resolve.Of(reflect, th, 8)
+		if e != api.OK {
+			t.Fatal(name, e)
+		}
+		l = append(l, th)
+	}
+	thy := hol.Nat()
+	th, e := Run(thy, l, expr(Bottom, expr(Else, use(0), use(1))), testlang.Term(thy, "Suc (Suc Zero) + Suc (Suc Zero)"), 3)
+	if e != api.OK || testlang.Fault(th) != "" {
+		t.Fatal(e)
+	}
+	_, b, _ := term.IsEq(th.Prop())
+	if four, _ := hol.Numeral(4); !term.Equal(b, four) {
+		t.Error(testlang.Sequent(th))
 	}
 }
