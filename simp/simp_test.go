@@ -594,3 +594,39 @@ func TestP216Fewer(t *testing.T) {
 		}
 	}
 }
+
+// The hypotheses of equations come to the state; those that a parameter would be in have no place there.
+func TestP212GoalHypotheses(t *testing.T) {
+	thy := small()
+	cd := testlang.Assumed(thy, "c == d")
+	th, solved, e := Goal(Set{Rules: []kernel.Theorem{cd}}, state(t, "!!x. |- p x ==> |- p c"), 0, 1, 9)
+	if e != api.OK || solved || testlang.Fault(th) != "" || len(th.Hyps()) != 1 || !term.Equal(th.Hyps()[0], read1("c == d")) {
+		t.Error(testlang.Sequent(th), e)
+	}
+	th, solved, e = Goal(Set{Rules: []kernel.Theorem{cd}}, state(t, "|- p d ==> |- p c"), 0, 1, 9)
+	if e != api.OK || !solved || testlang.Fault(th) != "" || len(th.Hyps()) != 1 {
+		t.Error(testlang.Sequent(th), e)
+	}
+	open, e := kernel.Assume(thy, read1("g ?n == ?n"))
+	if e != api.OK {
+		t.Fatal(e)
+	}
+	if _, _, e := Goal(Set{Rules: []kernel.Theorem{open}}, state(t, "!!x. |- p (g x)"), 0, 1, 9); e != api.ErrFail {
+		t.Error(e)
+	}
+	// the hypothesis of an equation may be an assumption, too
+	th, solved, e = Goal(Set{Rules: []kernel.Theorem{cd}}, state(t, "c == d ==> |- p d ==> |- p c"), 0, 1, 9)
+	if e != api.OK || !solved || testlang.Fault(th) != "" {
+		t.Error(testlang.Sequent(th), e)
+	}
+	// two subgoals: the other one stays
+	cut, _, _ := tactic.Run(thy, nil, tactic.Expr{Kind: tactic.Cut, Prop: read1("|- p (g c)")}, state(t, "|- q c"), 5, 1)
+	th, _, e = Goal(Set{Rules: facts("g_n")}, cut[0], 0, 1, 9)
+	if goals, _ := term.Strip(th.Prop()); e != api.OK || len(goals) != 2 || !term.Equal(goals[0], read1("|- p c")) || !term.Equal(goals[1], read1("|- p (g c) ==> |- q c")) {
+		t.Error(testlang.Sequent(th), e)
+	}
+	th, _, e = Goal(Set{Rules: facts("g_n")}, cut[0], 1, 1, 9)
+	if e != api.ErrFail {
+		t.Error(testlang.Sequent(th), e)
+	}
+}
