@@ -208,7 +208,7 @@ func inBody(c conversion) conversion {
 		if !ok {
 			return derive.Equation{}, false
 		}
-		return derive.Permitted(func() derive.Equation { return derive.Within(x, a) })
+		return derive.Permitted(func() derive.Equation { return w.Under(t, x, a) })
 	}
 }
 

@@ -72,6 +72,21 @@ func Within(x api.Term, e Equation) Equation {
 	return Equation{Must(kernel.Abstraction(x, e.Theorem)), left, Lambda(x, e.Right)}
 }
 
+// Under returns that an abstraction is equal to what an equation makes of its body with a Free for its variable; its name stays.
+func (p *Prover) Under(abs, x api.Term, e Equation) Equation {
+	if e.IsSame() {
+		return Same(abs)
+	}
+	e = Within(x, e)
+	if abs.Name == x.Name {
+		return e
+	}
+	// the right side of the second equation is that of both
+	now := e.Right
+	now.Name = abs.Name
+	return Equation{Must(kernel.Transitive(e.Theorem, Must(p.Base.Reflexive(now)))), e.Left, now}
+}
+
 // Changed returns a theorem that states the other side of an equation, the left side of which it states.
 func Changed(e Equation, t kernel.Theorem) kernel.Theorem {
 	if e.IsSame() {
@@ -132,7 +147,7 @@ func (p *Prover) parts(t api.Term) Equation {
 		return p.Applied(f, p.Normal(t.Kids[1]))
 	case t.Op == api.Abs:
 		x := p.Fresh(t.Name, t.Type)
-		return Within(x, p.Normal(term.Put(t.Kids[0], x)))
+		return p.Under(t, x, p.Normal(term.Put(t.Kids[0], x)))
 	}
 	return Same(t)
 }

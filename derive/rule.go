@@ -69,9 +69,16 @@ type matching struct {
 
 // match makes a part of a rule equal to what it states here, if it is a pattern behind what is known; it reports whether it was one.
 func (m *matching) match(part, t api.Term) bool {
-	part, e := term.Norm(term.Apply(m.inst, part), normFuel)
-	if e != api.OK {
-		return false
+	part = term.Apply(m.inst, part)
+	if !isOpen(&part) {
+		return true // whether it fits is seen when it is used
+	}
+	if HasRedex(&part) {
+		now, e := term.Norm(part, normFuel)
+		if e != api.OK {
+			return false
+		}
+		part = now
 	}
 	if term.Equal(part, t) {
 		return true
@@ -83,6 +90,31 @@ func (m *matching) match(part, t api.Term) bool {
 	i, e = pattern.Compose(m.inst, i)
 	m.inst = i
 	return e == api.OK
+}
+
+// isOpen reports whether a term has schematic variables.
+func isOpen(t *api.Term) bool {
+	if t.Op == api.Var || isOpenType(&t.Type) {
+		return true
+	}
+	for i := range t.Kids {
+		if isOpen(&t.Kids[i]) {
+			return true
+		}
+	}
+	return false
+}
+
+func isOpenType(t *api.Type) bool {
+	if t.Op == api.TVar {
+		return true
+	}
+	for i := range t.Args {
+		if isOpenType(&t.Args[i]) {
+			return true
+		}
+	}
+	return false
 }
 
 // further matches the parts that are not done yet; it reports whether some are now, and others are not.

@@ -179,7 +179,7 @@ func (s *simplifier) body(t api.Term, v view) derive.Equation {
 	x := api.Term{Op: api.Free, Name: term.Variant("x", slices.Concat(s.names, v.around)), Type: t.Type}
 	s.Avoid(x)
 	v.around = append(slices.Clone(v.around), x.Name)
-	return derive.Within(x, s.simplify(term.Put(t.Kids[0], x), v))
+	return s.Under(t, x, s.simplify(term.Put(t.Kids[0], x), v))
 }
 
 // byCongruence simplifies the arguments of a constant by a congruence rule; false, if this does not match.

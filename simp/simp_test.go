@@ -630,3 +630,21 @@ func TestP212GoalHypotheses(t *testing.T) {
 		t.Error(testlang.Sequent(th), e)
 	}
 }
+
+// The names of abstractions stay.
+func TestP211Names(t *testing.T) {
+	thy := small()
+	for x, want := range map[string]string{"h (%y. g y)": "h (% y. y)", "h (%y. f y c)": "h (% y. f y c)", "h (%y. h (%z. f (g y) z))": "h (% y. h (f y))", "h (%y. h (%z. f z (g y)))": "h (% y. h (% z. f z y))"} {
+		th, e := Rewrite(thy, Set{Rules: facts("g_n")}, nil, read1(x), 0, 50)
+		if e != api.OK || testlang.Fault(th) != "" {
+			t.Fatal(e)
+		}
+		_, y, _ := term.IsEq(th.Prop())
+		if strings.Contains(x, "f (g y) z") {
+			want = "h (% y. h (% z. f y z))"
+		}
+		if got := testlang.Text(thy, y); got != want {
+			t.Error(got, "not", want)
+		}
+	}
+}
