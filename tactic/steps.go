@@ -41,14 +41,10 @@ func (r *runner) unfolding(rule kernel.Theorem, a api.Term) kernel.Theorem {
 	// (\x. body) c == (\x. body) r, and both sides are what they become
 	f := api.Term{Op: api.Abs, Name: "x", Type: c.Type, Kids: []api.Term{body}}
 	eq := derive.Must(kernel.Combination(derive.Must(r.base.Reflexive(f)), rule))
-	before := derive.Must(kernel.Symmetric(derive.Must(r.base.Beta(apply(f, c)))))
-	behind := derive.Must(r.base.Beta(apply(f, to)))
+	before := derive.Must(kernel.Symmetric(derive.Must(r.base.Beta(derive.App(f, c)))))
+	behind := derive.Must(r.base.Beta(derive.App(f, to)))
 	eq = derive.Must(kernel.Transitive(before, derive.Must(kernel.Transitive(eq, behind))))
 	return forward(eq, a, term.Put(body, to))
-}
-
-func apply(f, a api.Term) api.Term {
-	return api.Term{Op: api.App, Kids: []api.Term{f, a}}
 }
 
 // without returns the body of an abstraction over the places of a Const or a Free in a closed term within some abstractions, and whether there are some.
